@@ -46,7 +46,7 @@ def _grouping(p, x, y, z):
     return p(p(x, y), z) == p(x, p(y, z))
 
 
-_EQUATIONS = {
+EQUATIONS = {
     "grouping": _grouping,
     "order": lambda p, x, y, z: p(x, y) == p(y, x),
     "middle": lambda p, x, y, z: _grouping(p, x, y, z) and p(x, x) == x
@@ -63,4 +63,4 @@ _EQUATIONS = {
 def kept_by(operation, values):
     """The list of the rules that an operation on these values keeps."""
     triples = list(product(values, repeat=3))
-    return [rule for rule in RULES if all(_EQUATIONS[rule](operation, *triple) for triple in triples)]
+    return [rule for rule in RULES if all(EQUATIONS[rule](operation, *triple) for triple in triples)]

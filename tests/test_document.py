@@ -4,6 +4,9 @@ import doctest
 import os
 import unittest
 
+from foldplans.costs import cost, greatest_lead, waste
+from foldplans.loops import Loop
+from foldplans.rowsets import RowSet
 from foldplans.rules import Rules
 
 README = os.path.join(os.path.dirname(os.path.dirname(os.path.abspath(__file__))), "README.md")
@@ -15,6 +18,37 @@ class TestExamples(unittest.TestCase):
         self.assertEqual(
             [rules.kind, rules.listed(), rules.closed().listed(), "last" in rules],
             ["sets", ["order", "first"], ["grouping", "order", "middle", "first", "last"], True],
+        )
+
+    def test_loops(self):
+        loop = Loop(
+            "tags t\nsums a\nstate s\non t go r\na = x\nend none\nstate r\non t go r\na = a + x\nend a"
+        )
+        self.assertEqual([loop.tree(["t", "t", "t"]), loop.tree([])], [((0, 1), 2), None])
+
+    def test_two_sums_that_are_assigned_at_once(self):
+        loop = Loop(
+            "tags t\nsums a b\nstate s\non t go r\na = x\nb = x\nend none\n"
+            "state r\non t go r\na = b\nb = a + x\nend a"
+        )
+        walk = list(loop.steps([("t", "p"), ("t", "q")], lambda x, y: x + y))
+        self.assertEqual(walk[1:], [("r", {"a": "p", "b": "p"}), ("r", {"a": "p", "b": "pq"})])
+
+    def test_rowsets(self):
+        rows = RowSet.with_tag(["t", "u"], "u")
+        self.assertEqual(
+            [rows.how_many(3), rows.earliest(), rows.number(2), rows.rank(["t", "u"]), rows.least_states()],
+            [7, ["u"], ["u", "t"], 1, 2],
+        )
+
+    def test_costs(self):
+        loop = Loop("tags t\nsums a\nstate s\non t go s\na = x + x\nend none")
+        plain = Loop(
+            "tags t\nsums a\nstate s\non t go r\na = x\nend none\nstate r\non t go r\na = a + x\nend a"
+        )
+        self.assertEqual(
+            [cost(loop, ["t", "t"]), waste(loop, ["t", "t"]), waste(plain, ["t", "t"]), greatest_lead(plain, loop)],
+            [2, 2, 0, 0],
         )
 
     def test_readme(self):

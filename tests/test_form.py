@@ -1,10 +1,13 @@
-"""The form of the package: where things are defined, and limits that a reader cannot see at once."""
+"""The form of the package: where things are defined, and rules that a reader cannot check at once."""
 
 import ast
+import builtins
 import os
 import unittest
 
 PACKAGE = os.path.join(os.path.dirname(os.path.dirname(os.path.abspath(__file__))), "foldplans")
+
+ORDER = ["__le__", "__lt__", "__ge__", "__gt__"]
 
 # The interface that there is so far: functions, and classes with their methods.
 INTERFACE = {
@@ -14,11 +17,34 @@ INTERFACE = {
         "rules_of": [],
         "Rules": [
             "__init__", "of", "all_of", "listed", "kind", "closed", "__contains__", "__len__", "__bool__",
-            "__or__", "__and__", "__sub__", "__xor__", "__eq__", "__le__", "__lt__", "__ge__", "__gt__",
+            "__or__", "__and__", "__sub__", "__xor__", "__eq__", *ORDER,
         ],
     },
     "trees.py": {"letters": [], "do_agree": [], "value_of": []},
+    "loops.py": {"Loop": ["__init__", "__str__", "__eq__", "is_single", "tree", "run", "__call__", "steps"]},
+    "tables.py": {
+        "Table": [
+            "__init__", "of", "read", "__getitem__", "__setitem__", "__call__", "__str__", "__eq__", "rules", "kind",
+            "breaks", "unlike_at", "generated", "part", "__mul__", "__invert__", "copied",
+        ],
+    },
+    "rowsets.py": {
+        "RowSet": [
+            "none", "every", "with_tag", "of_length", "of_rows", "behind", "turned", "rank", "number", "how_many",
+            "earliest", "is_finite", "least_states", "__contains__", "__bool__", "__or__", "__and__", "__sub__",
+            "__xor__", "__invert__", "__add__", "__eq__", *ORDER,
+        ],
+    },
+    "costs.py": {"cost": [], "waste": [], "greatest_waste": [], "greatest_lead": []},
 }
+
+# What the package needs of Python's own names and methods.
+BUILTINS = set(
+    "len range enumerate zip min max sum abs sorted int str bool list tuple dict isinstance any all super "
+    "ValueError TypeError NotImplemented classmethod property".split()
+)
+METHODS = set("append extend pop get setdefault items keys values index count copy clear split join bit_length".split())
+FREE_OF_NAMES = set("type typing enum Enum Flag Generic Protocol ABC namedtuple".split())
 
 
 def files():
@@ -28,7 +54,40 @@ def files():
             yield name, file.read()
 
 
-class TestForm(unittest.TestCase):
+def nodes(*kinds):
+    """The name of the file and the node, for all nodes of these kinds."""
+    for name, text in files():
+        for node in ast.walk(ast.parse(text)):
+            if isinstance(node, kinds):
+                yield name, node
+
+
+def functions():
+    """All functions and methods of the package by their names: lists of nodes."""
+    found = {}
+    for _, node in nodes(ast.FunctionDef):
+        found.setdefault(node.name, []).append(node)
+    return found
+
+
+def is_operator(node):
+    """Whether a function is one that may change nothing."""
+    decorated = any(isinstance(one, ast.Name) and one.id == "property" for one in node.decorator_list)
+    special = node.name.startswith("__") and node.name not in ("__init__", "__setitem__", "__call__")
+    return decorated or special
+
+
+def called_names(node):
+    """The names that a function calls, those of methods included."""
+    for call in ast.walk(node):
+        if isinstance(call, ast.Call):
+            if isinstance(call.func, ast.Name):
+                yield call.func.id
+            elif isinstance(call.func, ast.Attribute) and call.func.attr != "__init__":
+                yield call.func.attr
+
+
+class TestPlaces(unittest.TestCase):
     def test_the_folder_has_only_python_files(self):
         for name, _ in files():
             self.assertRegex(name, r"^[a-z_]+\.py$")
@@ -42,17 +101,23 @@ class TestForm(unittest.TestCase):
                 self.assertRegex(line, r"^[ -~]*$", name)
 
     def test_functions_are_short(self):
-        for name, text in files():
-            for node in ast.walk(ast.parse(text)):
-                if isinstance(node, ast.FunctionDef):
-                    self.assertLessEqual(node.end_lineno - node.lineno + 1, 40, (name, node.name))
+        for name, node in nodes(ast.FunctionDef):
+            self.assertLessEqual(node.end_lineno - node.lineno + 1, 40, (name, node.name))
 
-    def test_imports_name_the_package_alone(self):
-        for name, text in files():
-            for node in ast.walk(ast.parse(text)):
-                self.assertNotIsInstance(node, ast.Import, name)
-                if isinstance(node, ast.ImportFrom):
-                    self.assertTrue(node.module.startswith("foldplans."), (name, node.module))
+    def test_imports_name_the_very_file_of_the_package(self):
+        texts = dict(files())
+        for name, node in nodes(ast.Import, ast.ImportFrom):
+            self.assertIsInstance(node, ast.ImportFrom, name)
+            package, module = node.module.split(".")
+            self.assertEqual(package, "foldplans")
+            defined = [part.name for part in ast.parse(texts[module + ".py"]).body if hasattr(part, "name")]
+            assigned = [
+                target.id for part in ast.parse(texts[module + ".py"]).body
+                if isinstance(part, ast.Assign) for target in part.targets
+            ]
+            for one in node.names:
+                self.assertIn(one.name, defined + assigned, name)
+                self.assertIs(one.asname, None)
 
     def test_the_interface_is_defined_in_its_files(self):
         texts = dict(files())
@@ -66,6 +131,128 @@ class TestForm(unittest.TestCase):
                 self.assertIn(thing, found)
                 for method in methods:
                     self.assertIn(method, found[thing])
+
+
+class TestWords(unittest.TestCase):
+    def test_statements_and_signs_that_are_not_used(self):
+        barred = (ast.Try, ast.With, ast.Global, ast.Nonlocal, ast.AsyncFunctionDef, ast.Match, ast.Div,
+                  ast.GeneratorExp, ast.Set, ast.SetComp, ast.NamedExpr, ast.JoinedStr, ast.Mod, ast.Pow,
+                  ast.AnnAssign)
+        for name, node in nodes(*barred):
+            self.fail((name, node))
+
+    def test_names_are_no_builtins_no_imports_no_classes(self):
+        for name, text in files():
+            tree = ast.parse(text)
+            # A doctest that has run before leaves a builtin called _.
+            taken = set(dir(builtins)) - {"_"}
+            taken |= {node.name for node in ast.walk(tree) if isinstance(node, ast.ClassDef)}
+            taken |= {one.name for node in ast.walk(tree) if isinstance(node, ast.ImportFrom) for one in node.names}
+            for node in ast.walk(tree):
+                if isinstance(node, ast.arg):
+                    self.assertNotIn(node.arg, taken, name)
+                if isinstance(node, ast.Name) and isinstance(node.ctx, ast.Store):
+                    self.assertNotIn(node.id, taken, name)
+
+    def test_builtins_and_methods_of_values(self):
+        own = {node.name for _, node in nodes(ast.FunctionDef, ast.ClassDef)}
+        for name, node in nodes(ast.Call):
+            if isinstance(node.func, ast.Name) and node.func.id in dir(builtins):
+                self.assertIn(node.func.id, BUILTINS, name)
+            if isinstance(node.func, ast.Attribute):
+                self.assertIn(node.func.attr, own | METHODS, name)
+
+    def test_words_that_do_not_occur(self):
+        for name, node in nodes(ast.Name, ast.Attribute, ast.arg, ast.keyword):
+            word = getattr(node, "id", getattr(node, "attr", getattr(node, "arg", None)))
+            self.assertNotIn(word, FREE_OF_NAMES | {"register", "mro", "elements", "open", "input", "law"}, name)
+
+    def test_is_stands_beside_none_and_truth_values_alone(self):
+        for name, node in nodes(ast.Compare):
+            for sign, right in zip(node.ops, node.comparators):
+                if isinstance(sign, (ast.Is, ast.IsNot)):
+                    self.assertIsInstance(right, ast.Constant, name)
+
+    def test_what_is_ordered_is_plainly_numbers(self):
+        for name, node in nodes(ast.Call):
+            if isinstance(node.func, ast.Name) and node.func.id in ("sorted", "min", "max"):
+                keys = [one.value.id for one in node.keywords if one.arg == "key"]
+                first = node.args[0]
+                element = getattr(first, "elt", None)
+                plain = isinstance(element, ast.Call) and element.func.id == "int"
+                self.assertTrue(plain or keys == ["int"], (name, node.lineno))
+
+    def test_module_level_has_plain_values_alone(self):
+        for name, text in files():
+            for node in ast.parse(text).body:
+                if isinstance(node, ast.Expr):
+                    self.assertIsInstance(node.value, ast.Constant, name)
+                else:
+                    self.assertIsInstance(node, (ast.ImportFrom, ast.FunctionDef, ast.ClassDef, ast.Assign), name)
+                if isinstance(node, ast.Assign):
+                    for part in ast.walk(node.value):
+                        self.assertNotIsInstance(part, (ast.Call, ast.ListComp, ast.DictComp), name)
+
+    def test_attributes_are_assigned_somewhere(self):
+        stored = {node.attr for _, node in nodes(ast.Attribute) if isinstance(node.ctx, ast.Store)}
+        own = {node.name for _, node in nodes(ast.FunctionDef)}
+        for name, node in nodes(ast.Attribute):
+            if node.attr != "__init__":
+                self.assertIn(node.attr, stored | own | METHODS, name)
+        methods = {
+            part.name for _, node in nodes(ast.ClassDef) for part in node.body if isinstance(part, ast.FunctionDef)
+        }
+        self.assertEqual(stored & methods, set())
+
+
+class TestOperators(unittest.TestCase):
+    """Operators, properties and what they call change nothing that they have not made themselves."""
+
+    def reached(self):
+        known = functions()
+        constructors = {
+            node.name: [part for part in node.body if getattr(part, "name", None) == "__init__"]
+            for _, node in nodes(ast.ClassDef)
+        }
+        waiting = [node for found in known.values() for node in found if is_operator(node)]
+        found = []
+        while waiting:
+            node = waiting.pop()
+            if node not in found:
+                found.append(node)
+                for name in called_names(node):
+                    waiting += constructors.get(name, known.get(name, []))
+        return found
+
+    def owner(self, node):
+        """The name in front of attributes, items and calls of methods."""
+        while not isinstance(node, ast.Name):
+            node = node.func if isinstance(node, ast.Call) else node.value
+        return node.id
+
+    def test_no_function_that_was_passed_is_called(self):
+        own = set(functions()) | {node.name for _, node in nodes(ast.ClassDef)} | BUILTINS | METHODS
+        for node in self.reached():
+            for name in called_names(node):
+                self.assertTrue(name in own, (node.name, name))
+
+    def test_what_is_changed_was_made_there(self):
+        for node in self.reached():
+            given = {one.arg for one in node.args.args}
+            for part in ast.walk(node):
+                if isinstance(part, (ast.Attribute, ast.Subscript)) and isinstance(part.ctx, ast.Store):
+                    if node.name == "__init__" and self.owner(part) == "self":
+                        self.assertIsInstance(part, ast.Attribute)
+                    else:
+                        self.assertNotIn(self.owner(part), given, (node.name, part.lineno))
+
+    def test_nothing_that_was_given_is_added_to(self):
+        for node in self.reached():
+            given = {one.arg for one in node.args.args}
+            for call in ast.walk(node):
+                if isinstance(call, ast.Call) and isinstance(call.func, ast.Attribute):
+                    if call.func.attr in ("append", "extend", "pop", "clear", "setdefault"):
+                        self.assertNotIn(self.owner(call.func), given, (node.name, call.lineno))
 
 
 if __name__ == "__main__":

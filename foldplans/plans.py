@@ -1,0 +1,63 @@
+"""What a loop does, told by numbers: its tags, sums and states are numbered in their order."""
+
+from foldplans.codes import ITEM, pluses_in, sums_in, worked_out
+
+
+class Turn:
+    """What happens behind one `on` line: the next state, and the assignments.
+
+    An assignment is a tuple of a sum and a code, or None for the word `none`.
+    """
+
+    def __init__(self, goal, changes):
+        self.goal = goal
+        self.changes = changes
+        codes = [code for _, code in changes]
+        self.used = tuple([place for code in codes for place in sums_in(code)])
+        self.pluses = sum([pluses_in(code) for code in codes])
+        self.is_double = sum([code.count(ITEM) for code in codes if code is not None]) > 1
+
+    def held_behind(self, held, item, operation):
+        """What the sums hold behind an item, a new list. None stands for an empty sum."""
+        values = [worked_out(code, held, item, operation) for _, code in self.changes]
+        after = list(held)
+        for place in self.used:
+            after[place] = None
+        for (place, _), value in zip(self.changes, values):
+            after[place] = value
+        return after
+
+
+class Plan:
+    """A loop by numbers. The start has the number 0.
+
+    `turns[state][tag]` is a Turn, `ends[state]` the code of the `end` line, or None for no result.
+    """
+
+    def __init__(self, tags, sums, states, turns, ends):
+        self.tags = tags
+        self.sums = sums
+        self.states = states
+        self.turns = turns
+        self.ends = ends
+        self.tag_numbers = {tag: at for at, tag in enumerate(tags)}
+
+    def nothing_held(self):
+        """What the sums hold at the beginning."""
+        return [None] * len(self.sums)
+
+    def outcome(self, state, held, operation):
+        """The result of a run that ends in this state."""
+        return worked_out(self.ends[state], held, None, operation)
+
+    def reached(self):
+        """The numbers of the states that some list reaches."""
+        found = {0: True}
+        waiting = [0]
+        while waiting:
+            state = waiting.pop()
+            for turn in self.turns[state]:
+                if turn.goal not in found:
+                    found[turn.goal] = True
+                    waiting.append(turn.goal)
+        return list(found)
