@@ -54,6 +54,21 @@ def pluses_in(code):
     return code.count(PLUS)
 
 
+def depths_in(code):
+    """The parts of a code that may be None, tuples of a number and of how many + it stands in."""
+    if code is None:
+        return []
+    ready = []
+    for step in code:
+        if step == PLUS:
+            right = ready.pop()
+            left = ready.pop()
+            ready.append([(part, depth + 1) for part, depth in left + right])
+        else:
+            ready.append([(step, 0)])
+    return ready[0]
+
+
 def worked_out(code, held, item, operation):
     """The value of a code; `held` is what the sums hold. It is None if the code is None."""
     if code is None:

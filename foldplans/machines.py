@@ -135,7 +135,7 @@ def put_behind(one, two):
     # begun at different places. Its dead state adds nothing, and where all rows are accepted nothing
     # else counts.
     living = [0 if state == two.dead else 1 << state for state in range(len(two.nexts))]
-    images = [[living[row[tag]] for row in two.nexts] for tag in range(len(one.nexts[0]))]
+    images = [[living[goals[tag]] for goals in two.nexts] for tag in range(len(one.nexts[0]))]
     whole = _state_for_ever(two.nexts, two.accepting, True)
     everything = 0 if whole is None else 1 << whole
     start = (0, living[0] if one.accepting[0] else 0)
@@ -161,8 +161,8 @@ def read_backwards(machine):
     """The machine for the rows read backwards."""
     # It follows the states from which what has been read would have been accepted.
     images = [[0] * len(machine.nexts) for _ in machine.nexts[0]]
-    for state, row in enumerate(machine.nexts):
-        for tag, goal in enumerate(row):
+    for state, goals in enumerate(machine.nexts):
+        for tag, goal in enumerate(goals):
             images[tag][goal] = images[tag][goal] | (1 << state)
     start = set_of([state for state, accepts in enumerate(machine.accepting) if accepts])
     numbers = {start: 0}

@@ -50,6 +50,11 @@ class Plan:
         """The result of a run that ends in this state."""
         return worked_out(self.ends[state], held, None, operation)
 
+    def limited_to(self, tags):
+        """The plan for the lists in which only the tags with these numbers occur."""
+        turns = tuple([tuple([row[tag] for tag in tags]) for row in self.turns])
+        return Plan(tuple([self.tags[tag] for tag in tags]), self.sums, self.states, turns, self.ends)
+
     def reached(self):
         """The numbers of the states that some list reaches."""
         found = {0: True}

@@ -4,8 +4,11 @@ import doctest
 import os
 import unittest
 
+from foldplans.compare import least_kinds
 from foldplans.costs import cost, greatest_lead, waste
 from foldplans.loops import Loop
+from foldplans.makers import back_fold, blocks, earliest, fold, lanes
+from foldplans.rowkinds import kinds_at, rows_by_kinds
 from foldplans.rowsets import RowSet
 from foldplans.rules import Rules
 
@@ -43,12 +46,26 @@ class TestExamples(unittest.TestCase):
 
     def test_costs(self):
         loop = Loop("tags t\nsums a\nstate s\non t go s\na = x + x\nend none")
-        plain = Loop(
-            "tags t\nsums a\nstate s\non t go r\na = x\nend none\nstate r\non t go r\na = a + x\nend a"
-        )
         self.assertEqual(
-            [cost(loop, ["t", "t"]), waste(loop, ["t", "t"]), waste(plain, ["t", "t"]), greatest_lead(plain, loop)],
+            [cost(loop, ["t", "t"]), waste(loop, ["t", "t"]), waste(fold(["t"]), ["t", "t"]),
+             greatest_lead(fold(["t"]), loop)],
             [2, 2, 0, 0],
+        )
+
+    def test_compare(self):
+        plain = fold(["t"])
+        self.assertEqual(
+            [least_kinds(plain, back_fold(["t"])), least_kinds(plain, lanes(["t"], 2)),
+             least_kinds(plain, blocks(["t"], 3))],
+            [["pairs"], ["bags", "lefts"], ["words"]],
+        )
+
+    def test_rowkinds(self):
+        p, q = fold(["t"]), back_fold(["t"])
+        found = rows_by_kinds(p, earliest(["t"], 2))
+        self.assertEqual(
+            [kinds_at(p, q, ["t"]), kinds_at(p, q, ["t", "t"]), found[0][0], found[1][0], found[1][1].earliest()],
+            [["trees"], ["pairs"], ["trees"], ["lefts"], ["t", "t", "t"]],
         )
 
     def test_readme(self):

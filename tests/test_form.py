@@ -36,6 +36,16 @@ INTERFACE = {
         ],
     },
     "costs.py": {"cost": [], "waste": [], "greatest_waste": [], "greatest_lead": []},
+    "compare.py": {
+        "agree": [], "parting": [], "Parting": ["__init__"], "least_kinds": [], "agreeing_tags": [], "parting_in": [],
+        "is_order_free": [], "result_rows": [], "parting_rows": [],
+    },
+    "rowkinds.py": {"kinds_at": [], "rows_by_kinds": []},
+    "heights.py": {"height": [], "greatest_height": [], "high_rows": []},
+    "makers.py": {
+        "fold": [], "back_fold": [], "lanes": [], "blocks": [], "earliest": [], "latest": [], "every": [],
+        "by_tag": [], "without": [], "restarting": [], "joined": [],
+    },
 }
 
 # What the package needs of Python's own names and methods.
@@ -245,6 +255,19 @@ class TestOperators(unittest.TestCase):
                         self.assertIsInstance(part, ast.Attribute)
                     else:
                         self.assertNotIn(self.owner(part), given, (node.name, part.lineno))
+
+    def test_what_is_changed_is_no_target_of_a_loop(self):
+        for node in self.reached():
+            looped = set()
+            for part in ast.walk(node):
+                if isinstance(part, (ast.For, ast.comprehension)):
+                    looped |= {one.id for one in ast.walk(part.target) if isinstance(one, ast.Name)}
+            for part in ast.walk(node):
+                if isinstance(part, ast.Subscript) and isinstance(part.ctx, ast.Store):
+                    self.assertNotIn(self.owner(part), looped, (node.name, part.lineno))
+                if isinstance(part, ast.Call) and isinstance(part.func, ast.Attribute):
+                    if part.func.attr in ("append", "extend", "pop", "clear", "setdefault"):
+                        self.assertNotIn(self.owner(part.func), looped, (node.name, part.lineno))
 
     def test_nothing_that_was_given_is_added_to(self):
         for node in self.reached():

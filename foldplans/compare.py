@@ -1,0 +1,144 @@
+"""Whether two loops agree, and how they differ if they do not."""
+
+from foldplans.cases import Cases, classes
+from foldplans.checks import check_kind, check_tags
+from foldplans.duels import parting_rows_of, shortest_items
+from foldplans.gauges import gauge_for, gauge_of_table, parts_of
+from foldplans.leastkinds import least_by_parts, parts_for
+from foldplans.machines import IN_EITHER, Machine, merged
+from foldplans.rowsets import RowSet
+from foldplans.tables import Table
+
+
+def _gauges(p, q, kind):
+    """The gauges for two loops and a kind."""
+    return [gauge_for(part, p.is_single and q.is_single, True) for part in parts_of(kind)]
+
+
+def agree(p, q, kind):
+    """Whether two loops agree under a kind."""
+    return parting(p, q, kind) is None
+
+
+class Parting:
+    """A list of items and a table for which two loops have different results."""
+
+    def __init__(self, given, table, results):
+        self.given = list(given)
+        self.table = table
+        self.results = tuple(results)
+
+
+def _table_of(gauge):
+    """The operation of a gauge as a table."""
+    rows = gauge.rows
+    return Table.of(len(rows), lambda a, b: rows[a][b])
+
+
+def parting(p, q, kind):
+    """A shortest list and a table of the kind for which two loops differ, or None if they agree."""
+    check_tags(p, q)
+    check_kind([p, q], kind)
+    shortest = None
+    chosen = None
+    for gauge in _gauges(p, q, kind):
+        items = shortest_items(p.plan, q.plan, gauge)
+        if items is not None and (shortest is None or len(items) < len(shortest)):
+            shortest = items
+            chosen = gauge
+    if shortest is None:
+        return None
+    given = [(p.tags[tag], value) for tag, value in shortest]
+    table = _table_of(chosen)
+    return Parting(given, table, (p.run(given, table), q.run(given, table)))
+
+
+def least_kinds(p, q):
+    """The kinds under which two loops agree, while they agree under no weaker kind."""
+    check_tags(p, q)
+    are_single = p.is_single and q.is_single
+    agreed = {}
+    for part in parts_for(are_single):
+        if shortest_items(p.plan, q.plan, gauge_for(part, are_single, True)) is None:
+            agreed[part] = True
+    return least_by_parts(are_single, agreed)
+
+
+def _difference_among(p, q, gauges, tags):
+    """The numbers of the tags of a list over these tags for which two loops differ, or None."""
+    one = p.plan.limited_to(tags)
+    two = q.plan.limited_to(tags)
+    for gauge in gauges:
+        items = shortest_items(one, two, gauge)
+        if items is not None:
+            return [tags[tag] for tag, _ in items]
+    return None
+
+
+def agreeing_tags(p, q, kind):
+    """The greatest sets of tags such that two loops agree for all lists with these tags alone."""
+    check_tags(p, q)
+    check_kind([p, q], kind)
+    gauges = _gauges(p, q, kind)
+    many = len(p.tags)
+    agreeing = []
+    parting_ones = []
+    # Each set is a number with a bit for each tag, the first tag has the highest one. So the sets
+    # come in their order, and a set comes behind all that have more tags.
+    for chosen in range((1 << many) - 1, -1, -1):
+        is_known = any([chosen & found == chosen for found in agreeing])
+        if not is_known and not any([chosen & found == found for found in parting_ones]):
+            tags = [tag for tag in range(many) if (chosen >> (many - 1 - tag)) & 1 == 1]
+            used = _difference_among(p, q, gauges, tags)
+            if used is None:
+                agreeing.append(chosen)
+            else:
+                parting_ones.append(sum([1 << (many - 1 - tag) for tag in range(many) if tag in used]))
+    return [[p.tags[tag] for tag in range(many) if (chosen >> (many - 1 - tag)) & 1 == 1] for chosen in agreeing]
+
+
+def parting_in(p, q, table):
+    """A shortest list for which two loops have different results in a table, or None."""
+    check_tags(p, q)
+    items = shortest_items(p.plan, q.plan, gauge_of_table(table))
+    if items is None:
+        return None
+    return [(p.tags[tag], value) for tag, value in items]
+
+
+def _are_exchangeable(loop, gauge):
+    """Whether any two neighbours can change places wherever they stand."""
+    cases = Cases(gauge, len(loop.tags))
+    cases.start_of(loop.plan)
+    places = classes(cases)
+    nexts = cases.nexts
+    for row in nexts:
+        behind = [[places[case] for case in nexts[goal]] for goal in row]
+        for at, goals in enumerate(behind):
+            if any([goals[other] != behind[other][at] for other in range(at)]):
+                return False
+    return True
+
+
+def is_order_free(loop, kind):
+    """Whether the result stays the same under a kind if the items are brought into any other order."""
+    check_kind([loop], kind)
+    gauges = [gauge_for(part, loop.is_single, False) for part in parts_of(kind)]
+    return all([_are_exchangeable(loop, gauge) for gauge in gauges])
+
+
+def result_rows(loop):
+    """The rows of tags for which a loop has a result."""
+    nexts = [[turn.goal for turn in row] for row in loop.plan.turns]
+    return RowSet(loop.tags, Machine(nexts, [code is not None for code in loop.plan.ends], 0))
+
+
+def parting_rows(p, q, kind):
+    """The rows of tags for which the results of two loops do not agree under a kind."""
+    check_tags(p, q)
+    check_kind([p, q], kind)
+    machines = [parting_rows_of(p.plan, q.plan, gauge) for gauge in _gauges(p, q, kind)]
+    found = machines[0]
+    for machine in machines[1:]:
+        found = merged(found, machine, IN_EITHER)
+    return RowSet(p.tags, found)

@@ -1,0 +1,23 @@
+"""Where two loops have different results over a gauge."""
+
+from foldplans.cases import Cases, first_difference
+from foldplans.differing import parting_machine
+
+
+def shortest_items(one, two, gauge):
+    """The items of a shortest list for which two plans have different results over a gauge, or None.
+
+    An item is a tuple of the number of a tag and a value.
+    """
+    many = len(gauge.letters)
+    cases = Cases(gauge, len(one.tags))
+    signs = first_difference(cases, cases.start_of(one), cases.start_of(two))
+    if signs is None:
+        return None
+    return [(sign // many, gauge.letters[sign - sign // many * many]) for sign in signs]
+
+
+def parting_rows_of(one, two, gauge):
+    """The machine for the rows of tags for which two plans have different results over a gauge."""
+    cases = Cases(gauge, len(one.tags))
+    return parting_machine(cases, cases.start_of(one), cases.start_of(two))

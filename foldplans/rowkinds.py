@@ -1,0 +1,63 @@
+"""The least kinds of two loops row by row."""
+
+from foldplans.checks import check_tags
+from foldplans.duels import parting_rows_of
+from foldplans.gauges import gauge_for
+from foldplans.leastkinds import kinds_for, least_by_parts, least_of, parts_for
+from foldplans.machines import Machine
+from foldplans.rowsets import RowSet
+from foldplans.trees import do_agree
+
+
+def kinds_at(p, q, row):
+    """The least kinds of two loops at a row of tags."""
+    check_tags(p, q)
+    one = p.tree(row)
+    two = q.tree(row)
+    kinds = kinds_for(p.is_single and q.is_single)
+    if one is None and two is None:
+        return least_of(kinds)
+    if one is None or two is None:
+        return []
+    return least_of([kind for kind in kinds if do_agree(one, two, kind)])
+
+
+def _followed_together(machines):
+    """The states that the machines reach together, tuples in the order in which they are met.
+
+    The states that follow each of them are told, too, by their numbers.
+    """
+    first = tuple([0 for _ in machines])
+    numbers = {first: 0}
+    found = [first]
+    nexts = []
+    while len(nexts) < len(found):
+        states = found[len(nexts)]
+        goals = list(zip(*[machine.nexts[state] for machine, state in zip(machines, states)]))
+        row = []
+        for goal in goals:
+            if goal not in numbers:
+                numbers[goal] = len(found)
+                found.append(goal)
+            row.append(numbers[goal])
+        nexts.append(row)
+    return found, nexts
+
+
+def rows_by_kinds(p, q):
+    """All lists of kinds that are the least kinds at some row, with the sets of these rows."""
+    check_tags(p, q)
+    are_single = p.is_single and q.is_single
+    parts = parts_for(are_single)
+    machines = [parting_rows_of(p.plan, q.plan, gauge_for(part, are_single, True)) for part in parts]
+    found, nexts = _followed_together(machines)
+    answers = [
+        tuple([part for part, machine, state in zip(parts, machines, states) if not machine.accepting[state]])
+        for states in found
+    ]
+    kinds = {answer: tuple(least_by_parts(are_single, answer)) for answer in answers}
+    told = {kinds[answer]: True for answer in answers}
+    return [
+        (list(least), RowSet(p.tags, Machine(nexts, [kinds[answer] == least for answer in answers], 0)))
+        for least in told
+    ]
