@@ -5,7 +5,7 @@ A code is a tuple of numbers: the number of a sum, or one of the two numbers bel
 
 ITEM = -1
 PLUS = -2
-_MOST_OPEN = 20
+MOST_OPEN = 20
 
 
 def code_of(words, places):
@@ -18,7 +18,7 @@ def code_of(words, places):
     outer = []
     part_is_due = True
     for word in words:
-        if part_is_due and word == "(" and len(outer) < _MOST_OPEN:
+        if part_is_due and word == "(" and len(outer) < MOST_OPEN:
             # Whether a + waits for what stands in the brackets is known again when they close.
             outer.append(joined)
             joined = False

@@ -3,11 +3,27 @@
 from foldplans.cases import Cases, classes
 from foldplans.checks import check_kind, check_tags
 from foldplans.duels import parting_rows_of, shortest_items
+from foldplans.forms import form_of
 from foldplans.gauges import gauge_for, gauge_of_table, parts_of
 from foldplans.leastkinds import least_by_parts, parts_for
+from foldplans.likeness import likeness
 from foldplans.machines import IN_EITHER, Machine, merged
 from foldplans.rowsets import RowSet
 from foldplans.tables import Table
+
+
+# The kinds with normal forms under which single loops agree exactly if they agree under the given kind.
+_FORMS = {
+    "trees": "trees",
+    "pairs": "pairs",
+    "words": "words",
+    "middles": "words",
+    "heads": "words",
+    "tails": "words",
+    "bags": "bags",
+    "parity": "bags",
+    "sets": "bags",
+}
 
 
 def _gauges(p, q, kind):
@@ -15,9 +31,20 @@ def _gauges(p, q, kind):
     return [gauge_for(part, p.is_single and q.is_single, True) for part in parts_of(kind)]
 
 
+def _do_agree(p, q, kind):
+    """Whether two loops agree under a kind, or a part of one, under which they can be compared."""
+    if kind in _FORMS and p.is_single and q.is_single:
+        one = form_of(p.plan, _FORMS[kind])
+        two = form_of(q.plan, _FORMS[kind])
+        return likeness(one, two, (0, 0, ())) is not None
+    return all([shortest_items(p.plan, q.plan, gauge) is None for gauge in _gauges(p, q, kind)])
+
+
 def agree(p, q, kind):
     """Whether two loops agree under a kind."""
-    return parting(p, q, kind) is None
+    check_tags(p, q)
+    check_kind([p, q], kind)
+    return _do_agree(p, q, kind)
 
 
 class Parting:
@@ -39,6 +66,8 @@ def parting(p, q, kind):
     """A shortest list and a table of the kind for which two loops differ, or None if they agree."""
     check_tags(p, q)
     check_kind([p, q], kind)
+    if _do_agree(p, q, kind):
+        return None
     shortest = None
     chosen = None
     for gauge in _gauges(p, q, kind):
@@ -46,8 +75,6 @@ def parting(p, q, kind):
         if items is not None and (shortest is None or len(items) < len(shortest)):
             shortest = items
             chosen = gauge
-    if shortest is None:
-        return None
     given = [(p.tags[tag], value) for tag, value in shortest]
     table = _table_of(chosen)
     return Parting(given, table, (p.run(given, table), q.run(given, table)))
@@ -57,11 +84,7 @@ def least_kinds(p, q):
     """The kinds under which two loops agree, while they agree under no weaker kind."""
     check_tags(p, q)
     are_single = p.is_single and q.is_single
-    agreed = {}
-    for part in parts_for(are_single):
-        if shortest_items(p.plan, q.plan, gauge_for(part, are_single, True)) is None:
-            agreed[part] = True
-    return least_by_parts(are_single, agreed)
+    return least_by_parts(are_single, [part for part in parts_for(are_single) if _do_agree(p, q, part)])
 
 
 def _difference_among(p, q, gauges, tags):

@@ -99,3 +99,46 @@ class Draw:
         if assigned:
             del lines[self.draw.choice(assigned)]
         return "\n".join(lines)
+
+
+class Busy(Draw):
+    """Draws texts of loops that have many results, in which most items stand."""
+
+    def busy(self, tags, sums, states, items=1):
+        """A text with so many x behind each line at most, in which no empty sum is used."""
+        full = {}
+        for at, state in enumerate(states):
+            many = self.draw.randrange((at + 1) // 2, at * items + 1) if at else 0
+            full[state] = self.draw.sample(sums, min(many, len(sums)))
+        text = [" ".join(["tags", *tags]), " ".join(["sums", *sums])]
+        for state in states:
+            text.append(f"state {state}")
+            goals = [goal for goal in states if len(full[goal]) <= len(full[state]) + items]
+            lively = [goal for goal in goals if full[goal]] or goals
+            for tag in tags:
+                goal = self.draw.choice(lively if self.draw.random() < 0.9 else goals)
+                text += [f"on {tag} go {goal}", *self.busy_lines(full[state], full[goal], sums, items)]
+            told = full[state] if self.draw.random() < 0.7 else self.some(full[state])
+            told = self.draw.sample(told, len(told)) if self.draw.random() < 0.8 else []
+            text.append(" ".join(["end", *(self.bracketed(told) if told else ["none"])]))
+        return "\n".join(text)
+
+    def some(self, parts):
+        return [part for part in parts if self.draw.random() < 0.6]
+
+    def busy_lines(self, full, wanted, sums, items):
+        """Assignments that move most of what there is into the wanted sums."""
+        parts = [part for part in [*full, *["x"] * items] if self.draw.random() < 0.9]
+        while len(parts) < len(wanted):
+            parts = [*full, *["x"] * items]
+        self.draw.shuffle(parts)
+        found = {name: [] for name in wanted}
+        for at, part in enumerate(parts):
+            free = [name for name in wanted if not found[name]]
+            kept = part in free and self.draw.random() < 0.6
+            if wanted and (len(free) < len(parts) - at or free):
+                name = part if kept else self.draw.choice(free if len(free) >= len(parts) - at else wanted)
+                found[name].append(part)
+        lines = self.lines({name: told for name, told in found.items() if told != [name]})
+        unused = [name for name in sums if name not in wanted and name not in parts]
+        return lines + [f"{name} = none" for name in unused if self.draw.random() < 0.2]

@@ -2,7 +2,7 @@
 
 import random
 
-from tests.loop_texts import Draw
+from tests.loop_texts import Busy, Draw
 from tests.reference import Spelled
 
 NAMES = ["ab", "cd", "ef", "gh", "ij", "kl", "mn", "op", "qr", "st", "uv", "wx"]
@@ -168,8 +168,8 @@ class Rewriter:
 
 def drawn_text(number, items):
     """The text of a small loop that is drawn; at most so many x behind a line."""
-    draw = Draw(number)
     tags = ["t", "u", "v"][:1 + number % 3]
     sums = ["a", "b", "c"][:1 + number // 3 % 3]
-    states = ["s", "r", "p", "q"][:1 + number // 9 % 4]
-    return draw.careful(tags, sums, states, items)
+    if number % 7 == 0:
+        return Draw(number).careful(tags, sums, ["s", "r", "p", "q"][:1 + number // 9 % 4], items)
+    return Busy(number).busy(tags, sums, ["s", "r", "p", "q"][:2 + number // 9 % 3], items)

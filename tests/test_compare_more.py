@@ -3,10 +3,11 @@
 import unittest
 from itertools import permutations, product
 
-from foldplans.compare import agree, agreeing_tags, is_order_free, parting_in
+from foldplans.compare import agree, agreeing_tags, is_order_free, parting_in, parting_rows
 from foldplans.errors import Doubled, NoKind, OtherTags
 from foldplans.loops import Loop
 from foldplans.makers import back_fold, by_tag, every, fold, joined, lanes, latest, without
+from foldplans.rowsets import RowSet
 from foldplans.rules import all_kinds
 from foldplans.tables import Table
 from tests.loop_texts import DOUBLED, FOLD, SILENT
@@ -19,15 +20,6 @@ def subsets(tags):
     """All sets of tags, each in the order of the tags, in the order that the document tells."""
     chosen = product([True, False], repeat=len(tags))
     return [[tag for tag, taken in zip(tags, choice) if taken] for choice in chosen]
-
-
-def greatest_agreeing(p, q, kind):
-    """The greatest sets of tags for which all rows up to a length agree."""
-    good = []
-    for tags in subsets(p.tags):
-        if all(fit(p.tree(row), q.tree(row), kind) for row in rows_over(tags, [0, 8, 6, 4][len(tags)])):
-            good.append(tags)
-    return [tags for tags in good if not any(set(tags) < set(other) for other in good)]
 
 
 def renumbered(tree, places):
@@ -51,10 +43,33 @@ def is_free_up_to(loop, kind, rows):
 
 
 class TestAgreeingTags(unittest.TestCase):
+    def check_sets(self, p, q, kind, told):
+        """The told sets hold no row that parts the loops, each other one holds one; none in another."""
+        for tags in told:
+            self.assertEqual([set(tags) <= set(other) for other in told].count(True), 1)
+        apart = parting_rows(p, q, kind)
+        for tags in subsets(p.tags):
+            if any(set(tags) <= set(other) for other in told):
+                for row in rows_over(tags):
+                    self.assertTrue(fit(p.tree(row), q.tree(row), kind))
+            else:
+                rest = apart
+                for tag in p.tags:
+                    if tag not in tags:
+                        rest = rest - RowSet.with_tag(p.tags, tag)
+                row = rest.earliest()
+                self.assertLessEqual(set(row), set(tags))
+                self.assertFalse(fit(p.tree(row), q.tree(row), kind))
+
     def test_drawn_pairs(self):
+        many = {}
         for number, _, p, q in drawn_pairs(range(3, 400, 3)):
             for kind in kinds_of(p, q):
-                self.assertEqual(agreeing_tags(p, q, kind), greatest_agreeing(p, q, kind), (number, kind))
+                told = agreeing_tags(p, q, kind)
+                self.assertEqual(told, [tags for tags in subsets(p.tags) if tags in told], (number, kind))
+                self.check_sets(p, q, kind, told)
+                many[str(told)] = True
+        self.assertGreater(len(many), 4)
 
     def test_five_tags_and_the_order_of_the_sets(self):
         tags = ["t", "u", "v", "w", "y"]

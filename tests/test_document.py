@@ -6,8 +6,11 @@ import unittest
 
 from foldplans.compare import least_kinds
 from foldplans.costs import cost, greatest_lead, waste
+from foldplans.least import width
 from foldplans.loops import Loop
-from foldplans.makers import back_fold, blocks, earliest, fold, lanes
+from foldplans.makers import back_fold, blocks, earliest, fold, lanes, latest
+from foldplans.matchings import is_matching
+from foldplans.pieces import Summary
 from foldplans.rowkinds import kinds_at, rows_by_kinds
 from foldplans.rowsets import RowSet
 from foldplans.rules import Rules
@@ -66,6 +69,31 @@ class TestExamples(unittest.TestCase):
         self.assertEqual(
             [kinds_at(p, q, ["t"]), kinds_at(p, q, ["t", "t"]), found[0][0], found[1][0], found[1][1].earliest()],
             [["trees"], ["pairs"], ["trees"], ["lefts"], ["t", "t", "t"]],
+        )
+
+    def test_least(self):
+        self.assertEqual(
+            [width(lanes(["t"], 2), "words"), width(lanes(["t"], 2), "bags"), width(blocks(["t"], 3), "words"),
+             width(latest(["t"], 3), "words")],
+            [2, 1, 1, 3],
+        )
+
+    def test_matchings(self):
+        p = Loop("tags t\nsums a\nstate s\non t go r\na = x\nend none\nstate r\non t go r\na = a + x\nend a")
+        q = Loop(
+            "tags t\nsums b c\nstate s\non t go r\nb = x\nend none\nstate r\non t go o\nc = b\nb = x\nend b\n"
+            "state o\non t go o\nc = c + b\nb = x\nend c + b"
+        )
+        value = [("s", "s", []), ("r", "r", [("a", "b")]), ("r", "o", [("a", "c + b")])]
+        self.assertTrue(is_matching(p, q, "words", value))
+
+    def test_pieces(self):
+        loop = Loop("tags t\nsums a\nstate s\non t go r\na = x\nend none\nstate r\non t go r\na = a + x\nend a")
+        one, two = Summary(loop, [("t", 1), ("t", 2)], max), Summary(loop, [("t", 3)], max)
+        self.assertEqual(
+            [one.parts("s", "a"), two.parts("r", "a"), two.parts("s", "a"), Summary(loop, [], max).parts("s", "a"),
+             one.then(two).result()],
+            [[(2,)], ["a", (3,)], [(3,)], ["a"], 3],
         )
 
     def test_readme(self):

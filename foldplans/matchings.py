@@ -1,0 +1,121 @@
+"""Matchings: they show that two single loops agree."""
+
+from foldplans.checks import check_normal, check_tags
+from foldplans.codes import code_of
+from foldplans.covers import become, do_cover, have_sum_twice
+from foldplans.forms import form_of
+from foldplans.likeness import likeness
+from foldplans.shapes import code_of_shape
+from foldplans.writing import words_of
+
+
+def _check(p, q, kind):
+    check_tags(p, q)
+    check_normal([p, q], kind)
+
+
+def _sides(loop, form, state):
+    """The expressions of the blocks of a state over the sums of the loop."""
+    return [words_of(code_of_shape(form.under, shape), loop.sums) for shape in form.made_of[state]]
+
+
+def matching(p, q, kind):
+    """A matching of two loops, or None if they do not agree."""
+    _check(p, q, kind)
+    one = form_of(p.plan, kind)
+    two = form_of(q.plan, kind)
+    found = likeness(one, two, (0, 0, ()))
+    if found is None:
+        return None
+    entries = []
+    for state, other, names in found:
+        lefts = _sides(p, one, state)
+        rights = _sides(q, two, other)
+        blocks = [(lefts[block], rights[like]) for block, like in enumerate(names)]
+        entries.append((p.states[one.states[state]], q.states[two.states[other]], blocks))
+    return entries
+
+
+class Entry:
+    """An entry by numbers: two states, and the codes of the left and the right sides of its blocks."""
+
+    def __init__(self, state, other, lefts, rights):
+        self.state = state
+        self.other = other
+        self.lefts = lefts
+        self.rights = rights
+
+
+def _numbers(names):
+    return {name: at for at, name in enumerate(names)}
+
+
+def _codes_of(texts, sums):
+    """The codes of some texts, or None if one of them is no expression, or a sum occurs twice."""
+    places = _numbers(sums)
+    codes = [code_of(text.split(" "), places) if isinstance(text, str) else None for text in texts]
+    if any([code is None for code in codes]) or have_sum_twice(codes):
+        return None
+    return codes
+
+
+def _entry_of(p, q, told):
+    """The entry that a value stands for, or None if it stands for none."""
+    if not isinstance(told, tuple) or len(told) != 3:
+        return None
+    state, other, blocks = told
+    if not isinstance(state, str) or not isinstance(other, str) or not isinstance(blocks, list):
+        return None
+    if state not in p.states or other not in q.states:
+        return None
+    if not all([isinstance(block, tuple) and len(block) == 2 for block in blocks]):
+        return None
+    lefts = _codes_of([left for left, _ in blocks], p.sums)
+    rights = _codes_of([right for _, right in blocks], q.sums)
+    if lefts is None or rights is None:
+        return None
+    return Entry(p.states.index(state), q.states.index(other), lefts, rights)
+
+
+def _leads_to(kind, entry, left, right, behind):
+    """Whether an entry covers what the sides of the blocks of another one become behind two `on` lines."""
+    if behind.state != left.goal or behind.other != right.goal:
+        return False
+    for one, two in zip(behind.lefts, behind.rights):
+        moved = become(left, one)
+        likewise = become(right, two)
+        if moved is None or likewise is None or not do_cover(kind, entry.lefts, entry.rights, moved, likewise):
+            return False
+    return True
+
+
+def _holds_behind(p, q, kind, entry, entries):
+    """Whether there is an entry behind this one for each tag."""
+    for left, right in zip(p.plan.turns[entry.state], q.plan.turns[entry.other]):
+        if not any([_leads_to(kind, entry, left, right, behind) for behind in entries]):
+            return False
+    return True
+
+
+def _holds_at_end(p, q, kind, entry):
+    """Whether the results of both loops at once are covered."""
+    one = p.plan.ends[entry.state]
+    two = q.plan.ends[entry.other]
+    if one is None or two is None:
+        return one is None and two is None
+    return do_cover(kind, entry.lefts, entry.rights, one, two)
+
+
+def is_matching(p, q, kind, value):
+    """Whether any value is a matching of two loops."""
+    _check(p, q, kind)
+    if not isinstance(value, list):
+        return False
+    entries = [_entry_of(p, q, told) for told in value]
+    if any([entry is None for entry in entries]):
+        return False
+    if not any([entry.state == 0 and entry.other == 0 and not entry.lefts for entry in entries]):
+        return False
+    return all([
+        _holds_at_end(p, q, kind, entry) and _holds_behind(p, q, kind, entry, entries) for entry in entries
+    ])
