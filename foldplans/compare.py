@@ -3,6 +3,7 @@
 from foldplans.cases import Cases, classes
 from foldplans.checks import check_kind, check_tags
 from foldplans.duels import parting_rows_of, shortest_items
+from foldplans.early import Look
 from foldplans.forms import form_of
 from foldplans.gauges import gauge_for, gauge_of_table, parts_of
 from foldplans.leastkinds import least_by_parts, parts_for
@@ -98,6 +99,11 @@ def _difference_among(p, q, gauges, tags):
     return None
 
 
+def _chosen_tags(many, chosen):
+    """The numbers of the tags in a set that has a bit for each tag; the first tag has the highest one."""
+    return [tag for tag in range(many) if (chosen >> (many - 1 - tag)) & 1 == 1]
+
+
 def agreeing_tags(p, q, kind):
     """The greatest sets of tags such that two loops agree for all lists with these tags alone."""
     check_tags(p, q)
@@ -106,25 +112,34 @@ def agreeing_tags(p, q, kind):
     many = len(p.tags)
     agreeing = []
     parting_ones = []
-    # Each set is a number with a bit for each tag, the first tag has the highest one. So the sets
-    # come in their order, and a set comes behind all that have more tags.
+    # From the greatest number on, the sets come in their order, and a set comes behind all that have
+    # it as a part.
     for chosen in range((1 << many) - 1, -1, -1):
         is_known = any([chosen & found == chosen for found in agreeing])
         if not is_known and not any([chosen & found == found for found in parting_ones]):
-            tags = [tag for tag in range(many) if (chosen >> (many - 1 - tag)) & 1 == 1]
-            used = _difference_among(p, q, gauges, tags)
+            used = _difference_among(p, q, gauges, _chosen_tags(many, chosen))
             if used is None:
                 agreeing.append(chosen)
             else:
                 parting_ones.append(sum([1 << (many - 1 - tag) for tag in range(many) if tag in used]))
-    return [[p.tags[tag] for tag in range(many) if (chosen >> (many - 1 - tag)) & 1 == 1] for chosen in agreeing]
+    return [[p.tags[tag] for tag in _chosen_tags(many, chosen)] for chosen in agreeing]
+
+
+def _agree_by_kind(p, q, kind):
+    """Whether two loops agree under the kind of a table, as far as they can be compared under it."""
+    if kind in ("trees", "pairs") and not (p.is_single and q.is_single):
+        return False
+    return _do_agree(p, q, kind)
 
 
 def parting_in(p, q, table):
     """A shortest list for which two loops have different results in a table, or None."""
     check_tags(p, q)
-    items = shortest_items(p.plan, q.plan, gauge_of_table(table))
+    gauge = gauge_of_table(table)
+    items = Look(p.plan, q.plan, gauge.rows).shortest()
     if items is None:
+        items = None if _agree_by_kind(p, q, table.kind) else shortest_items(p.plan, q.plan, gauge)
+    if not items:
         return None
     return [(p.tags[tag], value) for tag, value in items]
 

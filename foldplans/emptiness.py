@@ -1,5 +1,6 @@
 """Which row of tags makes a loop use an empty sum."""
 
+from foldplans.bits import set_of
 from foldplans.codes import sums_in
 
 # What is known of one sum. A run that has used it while it was empty is broken.
@@ -44,8 +45,34 @@ def _row_for(plan, place):
     return None
 
 
+def _uses_empty_sums(plan):
+    """Whether some run uses an empty sum."""
+    # For each state the sums that may be empty there: as long as no run is broken, what becomes of one
+    # sum does not depend on the others.
+    empty = {0: (1 << len(plan.sums)) - 1}
+    waiting = [0]
+    while waiting:
+        later = {}
+        for state in waiting:
+            if empty[state] & set_of(sums_in(plan.ends[state])):
+                return True
+            for turn in plan.turns[state]:
+                work = turn.work
+                if empty[state] & work.needed:
+                    return True
+                before = empty.get(turn.goal)
+                behind = (empty[state] | work.emptied) & ~work.filled
+                if before is None or behind & ~before:
+                    empty[turn.goal] = behind if before is None else before | behind
+                    later[turn.goal] = True
+        waiting = list(later)
+    return False
+
+
 def empty_row(plan):
     """The first row of tags, the shorter ones first, for which a run uses an empty sum, or None."""
+    if not _uses_empty_sums(plan):
+        return None
     found = None
     for place in range(len(plan.sums)):
         row = _row_for(plan, place)

@@ -131,13 +131,13 @@ def _values_from(letters, join):
     known = {value: True for value in found}
     at = 0
     while at < len(found):
+        latest = found[at]
         at += 1
-        latest = found[at - 1]
-        for other in found[:at]:
-            for value in [join(latest, other), join(other, latest)]:
-                if value not in known:
-                    known[value] = True
-                    found.append(value)
+        made = [join(latest, other) for other in found[:at]] + [join(other, latest) for other in found[:at]]
+        for value in made:
+            if value not in known:
+                known[value] = True
+                found.append(value)
     return found
 
 
@@ -155,7 +155,8 @@ def gauge_for(part, is_single, are_in_order):
     rows = [[numbers[join(one, two)] for two in values] for one in values]
     many = len(marks)
     supply = _in_order(many) if are_in_order else _in_any_order(many)
-    return Gauge(rows, list(range(many + 1)), supply, ["".join([m for m in marks if m in v]) for v in values])
+    marks_of_values = ["".join([mark for mark in marks if mark in value]) for value in values]
+    return Gauge(rows, list(range(many + 1)), supply, marks_of_values)
 
 
 def gauge_of_table(table):

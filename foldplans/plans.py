@@ -1,21 +1,39 @@
 """What a loop does, told by numbers: its tags, sums and states are numbered in their order."""
 
+from foldplans.bits import set_of
 from foldplans.codes import ITEM, pluses_in, sums_in, worked_out
 
 
-class Turn:
-    """What happens behind one `on` line: the next state, and the assignments.
+class Work:
+    """What the assignments behind an `on` line do.
 
-    An assignment is a tuple of a sum and a code, or None for the word `none`.
+    An assignment is a tuple of a sum and a code, or None for the word `none`. `used` has the sums on the
+    right sides, `needed` is the set of these. `emptied` and `filled` are the sets of the sums that hold
+    nothing, or something, behind the line, whatever they held before.
     """
 
-    def __init__(self, goal, changes):
-        self.goal = goal
+    def __init__(self, changes):
         self.changes = changes
-        codes = [code for _, code in changes]
+        codes = [code for _, code in changes if code is not None]
         self.used = tuple([place for code in codes for place in sums_in(code)])
         self.pluses = sum([pluses_in(code) for code in codes])
-        self.is_double = sum([code.count(ITEM) for code in codes if code is not None]) > 1
+        self.is_double = sum([code.count(ITEM) for code in codes]) > 1
+        self.filled = set_of([place for place, code in changes if code is not None])
+        self.needed = set_of(self.used)
+        gone = set_of([place for place, code in changes if code is None])
+        self.emptied = (gone | self.needed) & ~self.filled
+
+
+class Turn:
+    """What happens behind one `on` line: the next state, and the work of the assignments."""
+
+    def __init__(self, goal, work):
+        self.goal = goal
+        self.work = work
+        self.changes = work.changes
+        self.used = work.used
+        self.pluses = work.pluses
+        self.is_double = work.is_double
 
     def held_behind(self, held, item, operation):
         """What the sums hold behind an item, a new list. None stands for an empty sum."""

@@ -3,16 +3,24 @@
 from foldplans.codes import ITEM, code_of
 from foldplans.errors import BadLoop
 from foldplans.names import is_name, lines_of
-from foldplans.plans import Plan, Turn
+from foldplans.plans import Plan, Turn, Work
+
+_MOST_ITEMS = 2
 
 
 class Reader:
-    """A text that is read line by line; `at` of its lines have been read."""
+    """A text that is read line by line; `at` of its lines have been read.
+
+    Many lines of a great loop are alike, so what has been found out of a line is kept: `known` has the
+    assignments, `goals` the names behind `go`.
+    """
 
     def __init__(self, text):
-        self.lines = [line.split(" ") for line in lines_of(text)]
+        self.lines = lines_of(text)
         self.at = 0
         self.introduced = {}
+        self.known = {}
+        self.goals = {}
 
     def is_done(self):
         """Whether all lines have been read."""
@@ -22,15 +30,15 @@ class Reader:
         """Tells that the line that is due is wrong, or missing."""
         raise BadLoop(self.at + 1)
 
-    def words(self):
-        """The words of the line that is due."""
+    def due_line(self):
+        """The line that is due."""
         if self.is_done():
             self.refuse()
         return self.lines[self.at]
 
     def new_names(self, word, least):
         """Reads a line with this word and at least so many new names; the names."""
-        words = self.words()
+        words = self.due_line().split(" ")
         if words[0] != word or len(words) <= least:
             self.refuse()
         for name in words[1:]:
@@ -42,56 +50,79 @@ class Reader:
 
     def new_state(self):
         """Reads the line that begins a state; its name."""
-        if len(self.words()) != 2:
+        if len(self.due_line().split(" ")) != 2:
             self.refuse()
         return self.new_names("state", 1)[0]
 
-    def next_state(self, tag):
-        """Reads the `on` line for a tag; the name of the state behind `go`."""
-        words = self.words()
-        if len(words) != 4 or words[:3] != ["on", tag, "go"] or not is_name(words[3]):
+    def next_state(self, beginning):
+        """Reads the `on` line with this beginning; the name of the state behind `go`."""
+        line = self.due_line()
+        goal = line[len(beginning):]
+        if not line.startswith(beginning):
             self.refuse()
+        if goal not in self.goals:
+            if not is_name(goal):
+                self.refuse()
+            self.goals[goal] = True
         self.at += 1
-        return words[3]
+        return goal
 
-    def code(self, words, places, uses):
-        """The code that some words of the line that is due stand for, or None for `none`.
-
-        The last dict tells how often each part may still be used; what the code uses is taken off.
-        """
+    def code(self, words, places):
+        """The code that some words of the line that is due stand for, or None for `none`."""
         if words == ["none"]:
             return None
         code = code_of(words, places)
         if code is None:
             self.refuse()
-        for step in code:
-            if step in uses:
-                uses[step] -= 1
-                if uses[step] < 0:
-                    self.refuse()
         return code
 
+    def assignment(self, line, places):
+        """The assignment in a line: a tuple of a sum and a code or None. None if it is another line."""
+        words = line.split(" ")
+        if words[1:2] != ["="]:
+            return None
+        place = places.get(words[0], ITEM)
+        if place == ITEM:
+            self.refuse()
+        return (place, self.code(words[2:], places))
+
     def assignments(self, places):
-        """Reads the assignments behind an `on` line: tuples of a sum and a code or None."""
-        parts = {**places, "x": ITEM}
-        uses = {parts[word]: 1 for word in parts}
-        uses[ITEM] = 2
+        """Reads the assignments behind an `on` line; the dict has the item, too."""
         found = {}
-        while not self.is_done() and self.words()[1:2] == ["="]:
-            words = self.words()
-            place = places.get(words[0], ITEM)
-            if place == ITEM or place in found:
+        uses = []
+        while self.at < len(self.lines):
+            line = self.lines[self.at]
+            # An `on` line comes so often that it is told from an assignment at once.
+            if line not in self.known:
+                told = None if line.startswith("on ") else self.assignment(line, places)
+                if told is None:
+                    break
+                self.known[line] = told
+            place, code = self.known[line]
+            if place in found:
                 self.refuse()
-            found[place] = self.code(words[2:], parts, uses)
+            found[place] = code
+            if code is not None:
+                self.check_uses(uses, code)
             self.at += 1
-        return tuple([(place, found[place]) for place in found])
+        return tuple([(place, code) for place, code in found.items()])
+
+    def check_uses(self, uses, code):
+        """Adds the parts of a code to those that have been used, none of them too often."""
+        for step in code:
+            if step >= 0 and step in uses or step == ITEM and uses.count(ITEM) == _MOST_ITEMS:
+                self.refuse()
+            if step >= ITEM:
+                uses.append(step)
 
     def end(self, places):
         """Reads an `end` line; its code, or None."""
-        words = self.words()
+        words = self.due_line().split(" ")
         if words[0] != "end":
             self.refuse()
-        code = self.code(words[1:], places, {places[name]: 1 for name in places})
+        code = self.code(words[1:], places)
+        if code is not None:
+            self.check_uses([], code)
         self.at += 1
         return code
 
@@ -108,9 +139,18 @@ def _check_goals(drafts, numbers):
                 raise BadLoop(line)
 
 
-def _turns(row, numbers):
-    """The turns of one state; each draft is a tuple of the line, the next state and the assignments."""
-    return tuple([Turn(numbers[goal], changes) for _, goal, changes in row])
+def _turns(drafts, numbers):
+    """The turns of the states; each draft is a tuple of the line, the next state and the assignments."""
+    works = {}
+    found = []
+    for draft in drafts:
+        row = []
+        for _, goal, changes in draft:
+            if changes not in works:
+                works[changes] = Work(changes)
+            row.append(Turn(numbers[goal], works[changes]))
+        found.append(tuple(row))
+    return tuple(found)
 
 
 def read_plan(text):
@@ -119,19 +159,20 @@ def read_plan(text):
     tags = reader.new_names("tags", 1)
     sums = reader.new_names("sums", 0)
     places = _numbered(sums)
+    parts = {**places, "x": ITEM}
+    beginnings = ["on " + tag + " go " for tag in tags]
     states = []
     drafts = []
     ends = []
     while not states or not reader.is_done():
         states.append(reader.new_state())
         row = []
-        for tag in tags:
-            goal = reader.next_state(tag)
+        for beginning in beginnings:
+            goal = reader.next_state(beginning)
             line = reader.at
-            row.append((line, goal, reader.assignments(places)))
+            row.append((line, goal, reader.assignments(parts)))
         drafts.append(row)
         ends.append(reader.end(places))
     numbers = _numbered(states)
     _check_goals(drafts, numbers)
-    turns = tuple([_turns(draft, numbers) for draft in drafts])
-    return Plan(tags, sums, tuple(states), turns, tuple(ends))
+    return Plan(tags, sums, tuple(states), _turns(drafts, numbers), tuple(ends))

@@ -2,6 +2,7 @@
 
 from foldplans.equations import breaking_z
 from foldplans.errors import BadSize, BadTable, BadValue, NoRule, NotClosed
+from foldplans.keeping import kept_rules
 from foldplans.names import lines_of
 from foldplans.rules import Rules, all_rules
 from foldplans.trees import do_agree
@@ -79,7 +80,7 @@ class Table:
 
     def rules(self):
         """The rules that the table keeps, in their order."""
-        return [rule for rule in all_rules() if self.breaks(rule) is None]
+        return kept_rules(self._rows, all_rules())
 
     @property
     def kind(self):
@@ -99,11 +100,15 @@ class Table:
 
     def unlike_at(self, one, two):
         """The first values of the letters for which two trees differ, a tuple, or None."""
-        # Trees that agree under the kind of the table need no search.
-        rules = self.rules()
-        if do_agree(one, two, Rules(rules).kind):
-            return None
-        found = Search(self._rows, alike_tree(one, rules), alike_tree(two, rules)).values_from(0)
+        # Most trees differ soon, or have few values to be tried. Others may agree under the kind of the
+        # table, and then they need no search; but it takes a while to find the kind.
+        search = Search(self._rows, one, two, True)
+        found = search.values_from(0)
+        if found is None and search.is_cut():
+            rules = self.rules()
+            if do_agree(one, two, Rules(rules).kind):
+                return None
+            found = Search(self._rows, alike_tree(one, rules), alike_tree(two, rules), False).values_from(0)
         return None if found is None else tuple(found)
 
     def generated(self, values):

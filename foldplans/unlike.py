@@ -2,6 +2,9 @@
 
 from foldplans.trees import letters, value_of
 
+# How many parts of trees a short search works out, about.
+_SHORT_SEARCH = 3000
+
 
 def _joins_and_roots(trees, count):
     """The joins of the trees, tuples of two numbers, and the numbers of the trees themselves.
@@ -40,10 +43,11 @@ class Search:
     """A search for the first values of the letters for which two trees differ.
 
     It goes through the values of one letter after the other. A part of a tree has a value as soon as
-    its letters have. For the last letter all values are tried at once: there a part is a list.
+    its letters have. For the last letter all values are tried at once: there a part is a list. A short
+    search is cut when it has gone on for a while.
     """
 
-    def __init__(self, rows, one, two):
+    def __init__(self, rows, one, two, is_short):
         found = letters(one) + letters(two)
         self.last = max([int(letter) for letter in found])
         self.rows = rows
@@ -57,6 +61,7 @@ class Search:
         self.needed = [self._needed_behind(letter) for letter in range(self.last)]
         self.tried = [{} for _ in range(self.last)]
         self.values_of_joined = _unlike_values(rows, self.columns)
+        self.rest = _SHORT_SEARCH // (len(joins) + 1) if is_short else None
 
     def _greatest_letters(self):
         """The greatest letter of each part."""
@@ -100,11 +105,19 @@ class Search:
         self.tried[letter][key] = True
         return True
 
+    def is_cut(self):
+        """Whether the search has been cut."""
+        return self.rest is not None and self.rest <= 0
+
     def values_from(self, letter):
         """The first values of this letter and the later ones for which the trees differ, or None."""
+        if self.rest is not None:
+            self.rest -= 1
         if letter == self.last:
             return self._last_value()
         for value in self._choices(letter):
+            if self.is_cut():
+                return None
             self.worth[letter] = value
             for part, left, right in self.joins_at[letter]:
                 self.worth[part] = self.rows[self.worth[left]][self.worth[right]]

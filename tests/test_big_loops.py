@@ -24,6 +24,14 @@ class TestReadAndRun(unittest.TestCase):
         self.assertTrue(loop.is_single)
         self.assertTrue(loop == Loop(text))
 
+    def test_many_loops_are_read(self):
+        texts = [ring_text({(at, at % 12): [f"{SUMS[at % 11]} = x"]}) for at in range(12, 200)]
+        with Soon():
+            for text in texts:
+                loop = Loop(text)
+                self.assertEqual(cost(loop, []), 0)
+                loop.tree(TAGS)
+
     def test_rows_of_300_tags(self):
         text = ring_text()
         loop = Loop(text)

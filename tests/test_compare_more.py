@@ -158,6 +158,9 @@ class TestTables(unittest.TestCase):
         with Soon():
             self.assertEqual(len(parting_in(fold(["t"]), back_fold(["t"]), Table.of(60, lambda a, b: a))), 2)
             self.assertIs(parting_in(fold(["t"]), back_fold(["t"]), Table.of(60, lambda a, b: (a + b) % 60)), None)
+            self.assertIs(parting_in(fold(["t"]), lanes(["t"], 4), Table.of(60, min)), None)
+            told = parting_in(lanes(["t", "u"], 3), by_tag(["t", "u"]), Table.of(12, lambda a, b: (a * a + b) % 12))
+            self.assertLessEqual(len(told), 3)
 
     def test_late_lists(self):
         p, q = Loop(counted(18, "a + x")), Loop(counted(18, "a"))

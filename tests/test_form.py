@@ -62,7 +62,7 @@ BUILTINS = set(
     "len range enumerate zip min max sum abs sorted int str bool list tuple dict isinstance any all super "
     "ValueError TypeError NotImplemented classmethod property".split()
 )
-METHODS = set("append extend pop get setdefault items keys values index count copy clear split join replace upper "
+METHODS = set("append extend pop get setdefault items keys values index count copy clear split join replace upper startswith "
               "bit_length".split())
 FREE_OF_NAMES = set("type typing enum Enum Flag Generic Protocol ABC namedtuple".split())
 

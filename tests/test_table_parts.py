@@ -119,6 +119,14 @@ class TestUnlikeAtSixtyValues(unittest.TestCase):
             self.assertIs(ring.unlike_at(left_comb(row * 75), right_comb(row * 15)), None)
             self.assertEqual(ring.unlike_at(left_comb(row * 75), right_comb(row * 14)), (0, 0, 0, 1))
 
+    def test_many_questions_soon(self):
+        tables = [Table.of(60, min), Table.of(60, lambda a, b: a), Table.of(60, lambda a, b: (a + b) % 60)]
+        with Soon():
+            for _ in range(1500):
+                told = [table.unlike_at((0, 1), (1, 0)) for table in tables]
+                self.assertEqual(told, [None, (0, 1), None])
+                self.assertEqual([table.unlike_at((0, 0), 0) for table in tables], [None, None, (1,)])
+
     def test_late_values_soon(self):
         table = Table.of(60, lambda a, b: 7)
         table[59, 58] = 8
