@@ -22,3 +22,13 @@ def union_of(images, chosen):
         found = found | images[lowest.bit_length() - 1]
         chosen = chosen ^ lowest
     return found
+
+
+def members_of(chosen):
+    """The members of a set, in ascending order."""
+    found = []
+    while chosen:
+        lowest = chosen & -chosen
+        found.append(lowest.bit_length() - 1)
+        chosen = chosen ^ lowest
+    return found

@@ -1,60 +1,43 @@
 """Machines for what may happen in several ways: a tag leads to several numbers at once.
 
 `images[tag][number]` is the set of the numbers that can follow. A row is accepted if one of its ways from
-the number 0 ends in one of the accepting numbers.
+the first number ends in one of the accepting numbers.
 """
 
-from foldplans.bits import has_member, set_of, union_of
+from foldplans.bits import has_member, members_of, set_of, union_of
 from foldplans.machines import Machine
 
-_FIRST_LIMIT = 200
+_FIRST_LIMIT = 100
 
 
-def _lasting(images, accepting):
-    """The numbers from which each row is accepted, as far as one way alone tells it."""
-    found = accepting
-    before = 0
-    while before != found:
-        before = found
-        staying = [
-            number for number in range(len(images[0]))
-            if has_member(before, number) and all([table[number] & before != 0 for table in images])
-        ]
-        found = set_of(staying)
-    return found
+def _classes(images, accepting):
+    """For each number the number of its class, and how many classes there are.
 
-
-class Walked:
-    """Sets of numbers that are reached from a first one; each of them gets a number of its own."""
-
-    def __init__(self, first):
-        self.sets = [first]
-        self.numbers = {first: 0}
-
-    def number(self, members):
-        """The number of a set."""
-        if members not in self.numbers:
-            self.numbers[members] = len(self.sets)
-            self.sets.append(members)
-        return self.numbers[members]
-
-
-def _walked(first, images, lasting, limit):
-    """The sets that are reached and the rows of those that follow; None if there are too many of them.
-
-    Each set with a lasting number counts as the set of these.
+    Numbers of one class lead to the same classes, and so to the same rows that are accepted.
     """
-    found = Walked(lasting if first & lasting else first)
-    nexts = []
-    while len(nexts) < len(found.sets):
-        if len(found.sets) > limit:
-            return None
-        row = []
-        for table in images:
-            later = union_of(table, found.sets[len(nexts)])
-            row.append(found.number(lasting if later & lasting else later))
-        nexts.append(row)
-    return found.sets, nexts
+    followers = [[members_of(members) for members in row] for row in zip(*images)]
+    places = [1 if has_member(accepting, number) else 0 for number in range(len(followers))]
+    before = 0
+    many = 1 + max([int(place) for place in places])
+    while before < many:
+        before = many
+        known = {}
+        places = [
+            known.setdefault((place, tuple([set_of([places[goal] for goal in told]) for told in row])), len(known))
+            for place, row in zip(places, followers)
+        ]
+        many = len(known)
+    return places, many
+
+
+def _merged(images, accepting):
+    """The images and the accepting numbers with one number for each class, and the first number."""
+    places, many = _classes(images, accepting)
+    found = [[0] * many for _ in images]
+    for tag, table in enumerate(images):
+        for number, members in enumerate(table):
+            found[tag][places[number]] = set_of([places[goal] for goal in members_of(members)])
+    return found, set_of([places[number] for number in members_of(accepting)]), places[0]
 
 
 def _turned(images):
@@ -62,43 +45,107 @@ def _turned(images):
     found = [[0] * len(table) for table in images]
     for tag, table in enumerate(images):
         for number, members in enumerate(table):
-            left = members
-            while left:
-                lowest = left & -left
-                found[tag][lowest.bit_length() - 1] = found[tag][lowest.bit_length() - 1] | (1 << number)
-                left = left ^ lowest
+            for goal in members_of(members):
+                found[tag][goal] = found[tag][goal] | (1 << number)
     return found
 
 
-def _forwards(images, accepting, limit):
+def _imitators(images, accepting):
+    """For each number the set of those that can go each of its ways as well, step by step."""
+    backwards = _turned(images)
+    many = len(images[0])
+    found = [accepting if has_member(accepting, number) else (1 << many) - 1 for number in range(many)]
+    origins = [[members_of(table[number]) for table in backwards] for number in range(many)]
+    waiting = list(range(many))
+    while waiting:
+        later = {}
+        for number in waiting:
+            for table, ahead in zip(backwards, origins[number]):
+                able = union_of(table, found[number]) if ahead else 0
+                for other in ahead:
+                    if found[other] & ~able:
+                        found[other] = found[other] & able
+                        later[other] = True
+        waiting = list(later)
+    return found
+
+
+def _better_ones(images, accepting):
+    """For each number the set of those beside which it is needless."""
+    imitators = _imitators(images, accepting)
+    alike = {}
+    for number, members in enumerate(imitators):
+        alike.setdefault(members, []).append(number)
+    # Of numbers that imitate one another, the first one stays.
+    return [
+        members & ~set_of([other for other in alike[members] if other >= number])
+        for number, members in enumerate(imitators)
+    ]
+
+
+def _needed(members, better):
+    """The members of a set beside which there is no better one."""
+    found = members
+    for number in members_of(members):
+        if found & better[number]:
+            found = found ^ (1 << number)
+    return found
+
+
+def _walked(first, images, better, limit):
+    """The sets that are reached and the rows of those that follow; None if there are too many of them."""
+    numbers = {first: 0}
+    sets = [first]
+    nexts = []
+    while len(nexts) < len(sets):
+        if len(sets) > limit:
+            return None
+        row = []
+        for table in images:
+            later = union_of(table, sets[len(nexts)])
+            if better is not None:
+                later = _needed(later, better)
+            if later not in numbers:
+                numbers[later] = len(sets)
+                sets.append(later)
+            row.append(numbers[later])
+        nexts.append(row)
+    return sets, nexts
+
+
+def _forwards(images, accepting, start, better, limit):
     """The machine, by the sets that rows lead to; None if there are too many of them."""
-    walked = _walked(1, images, _lasting(images, accepting), limit)
+    walked = _walked(1 << start, images, better, limit)
     if walked is None:
         return None
     sets, nexts = walked
     return Machine(nexts, [members & accepting != 0 for members in sets], 0)
 
 
-def _backwards(images, accepting, limit):
+def _backwards(images, accepting, start, limit):
     """The machine, by the sets from which rows are accepted; None if there are too many of them."""
-    walked = _walked(accepting, _turned(images), 0, limit)
+    walked = _walked(accepting, _turned(images), None, limit)
     if walked is None:
         return None
     sets, nexts = walked
-    first = set_of([number for number, members in enumerate(sets) if has_member(members, 0)])
+    first = set_of([number for number, members in enumerate(sets) if has_member(members, start)])
     tables = [[1 << row[tag] for row in nexts] for tag in range(len(images))]
-    sets, nexts = _walked(first, _turned(tables), 0, 1 << len(sets))
+    sets, nexts = _walked(first, _turned(tables), None, 1 << len(sets))
     return Machine(nexts, [has_member(members, 0) for members in sets], 0)
 
 
 def determined(images, accepting):
-    """The machine for the rows that are accepted."""
-    # One of the two directions may need far more sets than the other; it is not known which.
+    """The machine for the rows that are accepted from the number 0."""
     limit = _FIRST_LIMIT
-    found = None
+    found = _forwards(images, accepting, 0, None, limit)
+    if found is not None:
+        return found
+    images, accepting, start = _merged(images, accepting)
+    better = _better_ones(images, accepting)
+    # One of the two directions may need far more sets than the other; it is not known which.
     while found is None:
-        found = _forwards(images, accepting, limit)
+        limit = limit * 4
+        found = _forwards(images, accepting, start, better, limit)
         if found is None:
-            found = _backwards(images, accepting, limit)
-        limit = limit * 2
+            found = _backwards(images, accepting, start, limit)
     return found
