@@ -2,7 +2,7 @@
 
 from foldplans.cases import Cases, classes
 from foldplans.checks import check_kind, check_tags
-from foldplans.duels import parting_rows_of, shortest_items
+from foldplans.duels import late_items, parting_rows_of, shortest_items
 from foldplans.early import Look
 from foldplans.forms import form_of
 from foldplans.gauges import gauge_for, gauge_of_table, parts_of
@@ -57,10 +57,12 @@ class Parting:
         self.results = tuple(results)
 
 
-def _table_of(gauge):
-    """The operation of a gauge as a table."""
+def _parting_over(p, q, gauge, items):
+    """What a list of items, by the numbers of their tags, shows over a gauge."""
     rows = gauge.rows
-    return Table.of(len(rows), lambda a, b: rows[a][b])
+    operation = lambda a, b: rows[a][b]
+    given = [(p.tags[tag], value) for tag, value in items]
+    return Parting(given, Table.of(len(rows), operation), (p.run(given, operation), q.run(given, operation)))
 
 
 def parting(p, q, kind):
@@ -76,9 +78,7 @@ def parting(p, q, kind):
         if items is not None and (shortest is None or len(items) < len(shortest)):
             shortest = items
             chosen = gauge
-    given = [(p.tags[tag], value) for tag, value in shortest]
-    table = _table_of(chosen)
-    return Parting(given, table, (p.run(given, table), q.run(given, table)))
+    return _parting_over(p, q, chosen, shortest)
 
 
 def least_kinds(p, q):
@@ -136,9 +136,9 @@ def parting_in(p, q, table):
     """A shortest list for which two loops have different results in a table, or None."""
     check_tags(p, q)
     gauge = gauge_of_table(table)
-    items = Look(p.plan, q.plan, gauge.rows).shortest()
-    if items is None:
-        items = None if _agree_by_kind(p, q, table.kind) else shortest_items(p.plan, q.plan, gauge)
+    items = Look(p.plan, q.plan, gauge).shortest()
+    if items is None and not _agree_by_kind(p, q, table.kind):
+        items = late_items(p.plan, q.plan, gauge)
     if not items:
         return None
     return [(p.tags[tag], value) for tag, value in items]

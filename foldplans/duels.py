@@ -2,6 +2,7 @@
 
 from foldplans.cases import Cases, first_difference
 from foldplans.differing import parting_machine
+from foldplans.early import Look
 
 
 def shortest_items(one, two, gauge):
@@ -9,6 +10,14 @@ def shortest_items(one, two, gauge):
 
     An item is a tuple of the number of a tag and a value.
     """
+    found = Look(one, two, gauge).shortest()
+    if found is None:
+        return late_items(one, two, gauge)
+    return found if found else None
+
+
+def late_items(one, two, gauge):
+    """The same, found by way of all cases."""
     many = len(gauge.letters)
     cases = Cases(gauge, len(one.tags))
     signs = first_difference(cases, cases.start_of(one), cases.start_of(two))

@@ -1,60 +1,66 @@
-"""A first look for a short list that has different results over an operation."""
+"""A first look for a short list that has different results over a gauge."""
 
 from foldplans.codes import worked_out
 
 # How many items are looked at.
-_GREATEST_EFFORT = 10000
+_GREATEST_EFFORT = 3000
 
 
 class Look:
-    """Two plans that are followed together over an operation on numbers, list by list.
+    """Two plans that are followed together over a gauge, list by list.
 
-    `rows[a][b]` is a + b. Where a sum holds nothing, it counts as if it held 0.
+    A node tells what is used up, and for both plans the state and what the sums hold; where a sum holds
+    nothing, it counts as if it held 0.
     """
 
-    def __init__(self, one, two, rows):
+    def __init__(self, one, two, gauge):
         self.plans = (one, two)
-        self.rows = rows
+        self.gauge = gauge
+        self.signs = [(tag, at) for tag in range(len(one.tags)) for at in range(len(gauge.letters))]
 
     def _joined(self, left, right):
-        return self.rows[left][right]
+        return self.gauge.rows[left][right]
 
-    def _behind(self, pair, tag, value):
-        """The states and what the sums hold, for both plans, behind an item."""
+    def _behind(self, node, tag, at):
+        """The node behind an item with this tag and this letter; None if it may not have the letter."""
+        later = self.gauge.supply[node[0]][at]
+        if later is None:
+            return None
         found = []
-        for plan, (state, held) in zip(self.plans, pair):
+        for plan, (state, held) in zip(self.plans, node[1:]):
             turn = plan.turns[state][tag]
-            after = turn.held_behind(held, value, self._joined)
-            found.append((turn.goal, tuple([0 if worth is None else worth for worth in after])))
-        return tuple(found)
+            after = turn.held_behind(held, self.gauge.letters[at], self._joined)
+            found.append((turn.goal, tuple([0 if value is None else value for value in after])))
+        return (later, found[0], found[1])
 
-    def _differ(self, pair):
+    def _differs(self, node):
         """Whether the results are different if the list ends there."""
         told = [
-            worked_out(plan.ends[state], held, None, self._joined) for plan, (state, held) in zip(self.plans, pair)
+            worked_out(plan.ends[state], held, None, self._joined)
+            for plan, (state, held) in zip(self.plans, node[1:])
         ]
         return told[0] != told[1]
 
     def shortest(self):
-        """A shortest list of items, tuples of a tag number and a value, with different results.
+        """A shortest list with different results, of tuples of a tag number and a value.
 
         It is None if nothing is known behind some effort, and the empty list if there is no such list.
         """
-        items = [(tag, value) for tag in range(len(self.plans[0].tags)) for value in range(len(self.rows))]
-        first = tuple([(0, (0,) * len(plan.sums)) for plan in self.plans])
+        one, two = [(0, (0,) * len(plan.sums)) for plan in self.plans]
+        first = (0, one, two)
         lists = {first: []}
         waiting = [first]
         at = 0
         while at < len(waiting):
-            pair = waiting[at]
-            if self._differ(pair):
-                return lists[pair]
+            node = waiting[at]
+            if self._differs(node):
+                return [(tag, self.gauge.letters[letter]) for tag, letter in lists[node]]
             at += 1
-            if at * len(items) > _GREATEST_EFFORT:
+            if at * len(self.signs) > _GREATEST_EFFORT:
                 return None
-            for tag, value in items:
-                behind = self._behind(pair, tag, value)
-                if behind not in lists:
-                    lists[behind] = lists[pair] + [(tag, value)]
+            for sign in self.signs:
+                behind = self._behind(node, sign[0], sign[1])
+                if behind is not None and behind not in lists:
+                    lists[behind] = lists[node] + [sign]
                     waiting.append(behind)
         return []

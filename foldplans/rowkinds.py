@@ -33,9 +33,9 @@ def _followed_together(machines):
     nexts = []
     while len(nexts) < len(found):
         states = found[len(nexts)]
-        goals = list(zip(*[machine.nexts[state] for machine, state in zip(machines, states)]))
+        goals = [machine.nexts[state] for machine, state in zip(machines, states)]
         row = []
-        for goal in goals:
+        for goal in zip(*goals):
             if goal not in numbers:
                 numbers[goal] = len(found)
                 found.append(goal)

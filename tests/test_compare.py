@@ -47,7 +47,7 @@ class PartingCase(unittest.TestCase):
 class TestSearch(PartingCase):
     def test_drawn_pairs(self):
         agreed = 0
-        for number, _, p, q in drawn_pairs(range(600)):
+        for number, _, p, q in drawn_pairs(range(450)):
             rows = rows_over(p.tags)
             kinds = kinds_of(p, q)
             agreeing = []
@@ -67,7 +67,7 @@ class TestSearch(PartingCase):
                         self.assertEqual(len(shown.given), len(apart[0]))
             self.assertEqual(least_kinds(p, q), least(agreeing), number)
             agreed += len(agreeing)
-        self.assertGreater(agreed, 1000)
+        self.assertGreater(agreed, 700)
 
     def test_either_order_and_a_loop_with_itself(self):
         for number, kind, p, q in drawn_pairs(range(0, 400, 3)):

@@ -206,6 +206,10 @@ class TestWords(unittest.TestCase):
                 plain = isinstance(element, ast.Call) and element.func.id in ("int", "str")
                 self.assertTrue(plain or keys == ["int"], (name, node.lineno))
 
+    def test_stars_stand_before_names(self):
+        for name, node in nodes(ast.Starred):
+            self.assertIsInstance(node.value, (ast.Name, ast.Attribute), (name, node.lineno))
+
     def test_module_level_has_plain_values_alone(self):
         for name, text in files():
             for node in ast.parse(text).body:

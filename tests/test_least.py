@@ -115,21 +115,30 @@ class TestNormalForms(unittest.TestCase):
             self.assertEqual(normal_form(never, kind).text, form.text)
 
 
-def deep(many, kept):
-    """A loop that collects so many items, then puts some of them together in two steps, all from the right."""
+def deep(many, kept, aside=None):
+    """A loop that collects so many items, then puts some of them together in two steps, all from the right.
+
+    The item with the number `aside` is held by itself; it comes into the result behind a v alone.
+    """
     letters_of = "abcdefghijklmnopqrstuvwyz"
-    sums = ["s" + letters_of[at // 20] + letters_of[at % 20] for at in range(many)]
-    states = ["q" + letters_of[at // 20] + letters_of[at % 20] for at in range(many + 2)]
-    text = ["tags t u v", " ".join(["sums", *sums])]
-    for at, name in enumerate(sums):
+    names = ["s" + letters_of[at // 20] + letters_of[at % 20] for at in range(many)]
+    states = ["q" + letters_of[at // 20] + letters_of[at % 20] for at in range(many + 3)]
+    text = ["tags t u v", " ".join(["sums", *names])]
+    for at, name in enumerate(names):
         text += ["state " + states[at], f"on t go {states[at + 1]}", name + " = x"]
         text += [f"on {tag} go {states[at]}" for tag in "uv"] + ["end none"]
+    sums = [name for at, name in enumerate(names) if at != aside]
     text += ["state " + states[many], f"on t go {states[many + 1]}", f"{sums[kept]} = {comb(sums[kept:])}"]
-    text += [f"on u go {states[many]}", f"{sums[0]} = {sums[-1]}", f"{sums[-1]} = {sums[0]}"]
+    text += [f"on u go {states[many]}", f"{names[0]} = {names[-1]}", f"{names[-1]} = {names[0]}"]
     text += [f"on v go {states[many]}"]
-    text += [f"{name} = {sums[at - 1]}" for at, name in enumerate(sums)] + ["end none"]
-    text += ["state " + states[-1]] + [f"on {tag} go {states[-1]}" for tag in "tuv"]
-    return Loop("\n".join([*text, "end " + comb(sums[:kept + 1])]))
+    text += [f"{name} = {names[at - 1]}" for at, name in enumerate(names)] + ["end none"]
+    end = comb(sums[:kept + 1])
+    text += ["state " + states[many + 1], f"on t go {states[many + 1]}", f"on u go {states[many + 1]}"]
+    text += [f"on v go {states[many + 2] if aside is not None else states[many + 1]}", "end " + end]
+    if aside is not None:
+        text += ["state " + states[-1], *[f"on {tag} go {states[-1]}" for tag in "tuv"]]
+        text += [f"end {names[aside]} + {end}"]
+    return Loop("\n".join(text))
 
 
 def comb(parts):
@@ -141,7 +150,7 @@ def comb(parts):
 
 class TestBrackets(unittest.TestCase):
     def test_long_right_sides(self):
-        for many, kept in ((12, 5), (24, 11), (30, 15), (36, 17)):
+        for many, kept in ((12, 5), (24, 11), (30, 15)):
             loop = deep(many, kept)
             row = ["t"] * many + ["u", "v", "v"] + ["t"]
             for kind in KINDS:
@@ -159,6 +168,16 @@ class TestBrackets(unittest.TestCase):
         row = ["t"] * 43
         self.assertEqual(form.tree(row), loop.tree(row))
         self.assertEqual(len(form.sums), 42)
+
+
+    def test_other_sums_beside_what_is_held_in_several(self):
+        for aside in (0, 20, 42):
+            loop = deep(43, 20, aside)
+            with Soon(20):
+                form = normal_form(loop, "trees")
+            self.assertEqual([len(form.sums), len(form.states)], [43, 46])
+            for row in (["t"] * 44, ["t"] * 44 + ["v"], ["t"] * 43 + ["u", "v", "t", "t", "v", "u"]):
+                self.assertEqual(form.tree(row), loop.tree(row))
 
 
 class TestWidths(unittest.TestCase):

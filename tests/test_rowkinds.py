@@ -23,7 +23,7 @@ def least_at(p, q, row):
 class TestRowKinds(unittest.TestCase):
     def test_drawn_pairs(self):
         lists = {}
-        for number, _, p, q in drawn_pairs(range(1, 900, 2)):
+        for number, _, p, q in drawn_pairs(range(1, 640, 2)):
             rows = rows_over(p.tags)
             with Soon():
                 told = rows_by_kinds(p, q)
@@ -41,7 +41,7 @@ class TestRowKinds(unittest.TestCase):
         self.assertGreater(len(lists), 10)
 
     def test_drawn_pairs_that_are_not_single(self):
-        for number, _, p, q in drawn_pairs(range(0, 400, 2)):
+        for number, _, p, q in drawn_pairs(range(0, 320, 2)):
             rows = rows_over(p.tags)
             with Soon():
                 told = rows_by_kinds(p, q)
