@@ -136,6 +136,7 @@ class Likeness:
         self.colours = block_colours(form)
         self.places = state_colours(form, self.colours)
         self.views = {}
+        self.known = {}
 
     def ways(self, state, other):
         """The tuples that tell for each block of a state which block of the other state it is like."""
@@ -144,7 +145,18 @@ class Likeness:
         choices = [()]
         for block in range(self.form.many_blocks(state)):
             choices = [names + (like,) for names in choices for like in self._likes(state, other, block, names)]
-        return [names for names in choices if likeness(self.form, self.form, (state, other, names)) is not None]
+        return [names for names in choices if self._are_alike((state, other, names))]
+
+    def _are_alike(self, triple):
+        """Whether two states are alike, with their blocks as the triple tells."""
+        if triple not in self.known:
+            found = likeness(self.form, self.form, triple)
+            self.known[triple] = found is not None
+            # Where one triple holds, all do that follow from it.
+            if found is not None:
+                for other in found:
+                    self.known[other] = True
+        return self.known[triple]
 
     def _likes(self, state, other, block, names):
         """The blocks of the other state that a block may be like, if the blocks ahead are like those."""

@@ -1,11 +1,11 @@
 """Matchings: they show that two single loops agree."""
 
 from foldplans.checks import check_normal, check_tags
-from foldplans.codes import code_of
+from foldplans.codes import MOST_OPEN, code_of
 from foldplans.covers import become, do_cover, have_sum_twice
 from foldplans.forms import form_of
 from foldplans.likeness import likeness
-from foldplans.shapes import code_of_shape
+from foldplans.shapes import code_of_shape, halves, most_open
 from foldplans.writing import words_of
 
 
@@ -14,9 +14,21 @@ def _check(p, q, kind):
     check_normal([p, q], kind)
 
 
-def _sides(loop, form, state):
-    """The expressions of the blocks of a state over the sums of the loop."""
-    return [words_of(code_of_shape(form.under, shape), loop.sums) for shape in form.made_of[state]]
+def _within_limit(left, right):
+    """The block with these shapes, or several in its place, so that few enough brackets are open."""
+    if most_open(left) <= MOST_OPEN and most_open(right) <= MOST_OPEN or len(left) == 1 or len(right) == 1:
+        return [(left, right)]
+    found = []
+    for pair in zip(halves(left), halves(right)):
+        found.extend(_within_limit(pair[0], pair[1]))
+    return found
+
+
+def _blocks(kind, lefts, rights):
+    """The shapes of the sides of the blocks, tuples of two. Only under `trees` one may have many brackets."""
+    if kind != "trees":
+        return list(zip(lefts, rights))
+    return [block for left, right in zip(lefts, rights) for block in _within_limit(left, right)]
 
 
 def matching(p, q, kind):
@@ -29,9 +41,11 @@ def matching(p, q, kind):
         return None
     entries = []
     for state, other, names in found:
-        lefts = _sides(p, one, state)
-        rights = _sides(q, two, other)
-        blocks = [(lefts[block], rights[like]) for block, like in enumerate(names)]
+        told = _blocks(kind, one.made_of[state], [two.made_of[other][like] for like in names])
+        blocks = [
+            (words_of(code_of_shape(kind, left), p.sums), words_of(code_of_shape(kind, right), q.sums))
+            for left, right in told
+        ]
         entries.append((p.states[one.states[state]], q.states[two.states[other]], blocks))
     return entries
 

@@ -123,8 +123,12 @@ class Rewriter:
 
     def rewritten(self, text, kind="trees", doubling=False):
         """Another text, with other names and orders, that agrees with the loop under the kind."""
+        return self.rewritten_with(text, NAMES, kind, doubling)
+
+    def rewritten_with(self, text, names, kind="trees", doubling=False):
+        """The same, with these names for the sums and states."""
         loop = Spelled(text)
-        fresh = [name for name in NAMES if name not in loop.tags]
+        fresh = [name for name in names if name not in loop.tags]
         self.draw.shuffle(fresh)
         names = dict(zip([*loop.sums, *loop.states], fresh))
         sums = [names[name] for name in loop.sums]

@@ -89,3 +89,10 @@ def quad(order, lines):
     text += ["on v go f", *lines, "end none"]
     text += ["state g", *[f"on {tag} go g" for tag in "tuv"], f"end {one}"]
     return Loop("\n".join(text))
+
+
+def comb(parts):
+    """The parts put together from the right."""
+    if len(parts) < 3:
+        return " + ".join(parts)
+    return parts[0] + "".join(" + ( " + part for part in parts[1:-1]) + " + " + parts[-1] + " )" * (len(parts) - 2)

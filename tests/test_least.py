@@ -16,7 +16,7 @@ from tests.loop_texts import DOUBLED, FOLD, SILENT
 from tests.pairs_of_loops import parting_rows_up_to, rows_over
 from tests.reference import Spelled
 from tests.samples import Soon
-from tests.single_pairs import KINDS, great_pairs, quad, single_pairs
+from tests.single_pairs import KINDS, comb, great_pairs, quad, single_pairs
 
 
 def reached_states(loop):
@@ -139,13 +139,6 @@ def deep(many, kept, aside=None):
         text += ["state " + states[-1], *[f"on {tag} go {states[-1]}" for tag in "tuv"]]
         text += [f"end {names[aside]} + {end}"]
     return Loop("\n".join(text))
-
-
-def comb(parts):
-    """The parts put together from the right."""
-    if len(parts) < 3:
-        return " + ".join(parts)
-    return parts[0] + "".join(" + ( " + part for part in parts[1:-1]) + " + " + parts[-1] + " )" * (len(parts) - 2)
 
 
 class TestBrackets(unittest.TestCase):

@@ -13,7 +13,7 @@ from foldplans.matchings import is_matching, matching
 from foldplans.rules import all_kinds
 from tests.loop_texts import DOUBLED, FOLD, SILENT
 from tests.rewriting import Rewriter
-from tests.single_pairs import KINDS, great_pairs, quad, single_pairs
+from tests.single_pairs import KINDS, comb, great_pairs, quad, single_pairs
 from tests.walk_of_matchings import Walk
 
 HELD = (
@@ -146,6 +146,21 @@ class TestMatchings(unittest.TestCase):
         for p in quads:
             for q in quads:
                 self.assertIsNot(self.check(p, q, "pairs"), None)
+
+    def test_more_brackets_than_one_expression_may_have(self):
+        names = [one + two for one in "abc" for two in "abcdefghijkl"][:34]
+        states = ["z" + name for name in names] + ["zy", "zz"]
+        text = ["tags t u", " ".join(["sums", *names])]
+        for at, name in enumerate(names):
+            text += ["state " + states[at], f"on t go {states[at + 1]}", name + " = x", f"on u go {states[at]}", "end none"]
+        text += ["state zy", "on t go zz", f"{names[17]} = {comb(names[17:])}", "on u go zy", "end none"]
+        text += ["state zz", "on t go zz", "on u go zz", "end " + comb(names[:18])]
+        p = Loop("\n".join(text))
+        for number in range(3):
+            rewritten = Loop(Rewriter(number).rewritten_with(p.text, ["y" + name for name in names + states]))
+            for kind in KINDS:
+                self.assertIsNot(self.check(p, rewritten, kind), None)
+        self.assertIsNot(self.check(p, normal_form(p, "words"), "words"), None)
 
     def test_the_example(self):
         p, q = fold(["t"]), Loop(HELD)
