@@ -12,7 +12,6 @@ from foldplans.machines import IN_EITHER, Machine, merged
 from foldplans.rowsets import RowSet
 from foldplans.tables import Table
 
-
 # The kinds with normal forms under which single loops agree exactly if they agree under the given kind.
 _FORMS = {
     "trees": "trees",

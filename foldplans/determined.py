@@ -10,7 +10,7 @@ from foldplans.machines import Machine
 _FIRST_LIMIT = 100
 
 
-def _classes(images, accepting):
+def _alike_numbers(images, accepting):
     """For each number the number of its class, and how many classes there are.
 
     Numbers of one class lead to the same classes, and so to the same rows that are accepted.
@@ -32,7 +32,7 @@ def _classes(images, accepting):
 
 def _merged(images, accepting):
     """The images and the accepting numbers with one number for each class, and the first number."""
-    places, many = _classes(images, accepting)
+    places, many = _alike_numbers(images, accepting)
     found = [[0] * many for _ in images]
     for tag, table in enumerate(images):
         for number, members in enumerate(table):
@@ -55,7 +55,7 @@ def _imitators(images, accepting):
     backwards = _turned(images)
     many = len(images[0])
     found = [accepting if has_member(accepting, number) else (1 << many) - 1 for number in range(many)]
-    origins = [[members_of(table[number]) for table in backwards] for number in range(many)]
+    origins = [[members_of(row[place]) for row in backwards] for place in range(many)]
     waiting = list(range(many))
     while waiting:
         later = {}

@@ -92,7 +92,8 @@ class Watch:
                     self.origins.setdefault(other, []).append(key)
         waiting = list(self.torn)
         while waiting:
-            for origin in self.origins.get(waiting.pop(), []):
+            latest = waiting.pop()
+            for origin in self.origins.get(latest, []):
                 if origin not in self.torn:
                     self.torn[origin] = True
                     waiting.append(origin)
@@ -136,7 +137,7 @@ class Watch:
         return left == (one,) and right == (two,)
 
 
-def _groups(kind, size, follows):
+def _chains(kind, size, follows):
     """The blocks of a state that are joined: lists of blocks, in their order.
 
     The dict tells for a block which one always stands behind it.
@@ -213,4 +214,4 @@ def form_of(plan, kind):
         follows = _followers(form)
         if not any([len(told) > 0 for told in follows]):
             return form
-        form = _joined(form, [_groups(kind, form.many_blocks(state), told) for state, told in enumerate(follows)])
+        form = _joined(form, [_chains(kind, form.many_blocks(state), told) for state, told in enumerate(follows)])

@@ -43,7 +43,7 @@ class Naming:
             if ways:
                 return number, self._least(contents, [[numbers[block] for block in way] for way in ways])
         texts = {str(shape): block for block, shape in enumerate(contents)}
-        ordered = [texts[text] for text in sorted([str(text) for text in texts])]
+        ordered = [texts[text] for text in sorted([str(told) for told in texts])]
         places = {block: at for at, block in enumerate(ordered)}
         self.chosen.append((goal, [places[block] for block in range(len(contents))]))
         return len(self.chosen) - 1, [contents[block] for block in ordered]

@@ -1,6 +1,5 @@
 """Which states of forms lead to the same results, with their blocks exchanged one to one."""
 
-from foldplans.codes import PLUS
 from foldplans.shapes import renamed
 
 

@@ -12,7 +12,7 @@ def _wanted_ahead(turn, wanted):
 
 def living_sums(plan):
     """For each state a dict with the sums that some list brings into a result from there."""
-    found = [{place: True for place in sums_in(code)} for code in plan.ends]
+    found = [{used: True for used in sums_in(code)} for code in plan.ends]
     changing = True
     while changing:
         changing = False

@@ -1,27 +1,27 @@
 """What a loop does, told by numbers: its tags, sums and states are numbered in their order."""
 
-from foldplans.bits import set_of
-from foldplans.codes import ITEM, pluses_in, sums_in, worked_out
+from foldplans.bits import members_of, set_of
+from foldplans.codes import worked_out
 
 
 class Work:
     """What the assignments behind an `on` line do.
 
     An assignment is a tuple of a sum and a code, or None for the word `none`. `used` has the sums on the
-    right sides, `needed` is the set of these. `emptied` and `filled` are the sets of the sums that hold
-    nothing, or something, behind the line, whatever they held before.
+    right sides, `needed` is the set of these; `pluses` counts their +, and `is_double` tells whether the
+    item is there twice. `emptied` and `filled` are the sets of the sums that hold nothing, or something,
+    behind the line, whatever they held before.
     """
 
-    def __init__(self, changes):
+    def __init__(self, changes, needed, pluses, is_double):
         self.changes = changes
-        codes = [code for _, code in changes if code is not None]
-        self.used = tuple([place for code in codes for place in sums_in(code)])
-        self.pluses = sum([pluses_in(code) for code in codes])
-        self.is_double = sum([code.count(ITEM) for code in codes]) > 1
+        self.needed = needed
+        self.used = members_of(needed)
+        self.pluses = pluses
+        self.is_double = is_double
         self.filled = set_of([place for place, code in changes if code is not None])
-        self.needed = set_of(self.used)
         gone = set_of([place for place, code in changes if code is None])
-        self.emptied = (gone | self.needed) & ~self.filled
+        self.emptied = (gone | needed) & ~self.filled
 
 
 class Turn:

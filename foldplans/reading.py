@@ -1,6 +1,7 @@
 """How the text of a loop is read."""
 
-from foldplans.codes import ITEM, code_of
+from foldplans.bits import members_of, set_of
+from foldplans.codes import ITEM, code_of, pluses_in, sums_in
 from foldplans.errors import BadLoop
 from foldplans.names import is_name, lines_of
 from foldplans.plans import Plan, Turn, Work
@@ -12,7 +13,7 @@ class Reader:
     """A text that is read line by line; `at` of its lines have been read.
 
     Many lines of a great loop are alike, so what has been found out of a line is kept: `known` has the
-    assignments, `goals` the names behind `go`.
+    assignments, `works` what they do together, `goals` the names behind `go`.
     """
 
     def __init__(self, text):
@@ -20,6 +21,7 @@ class Reader:
         self.at = 0
         self.introduced = {}
         self.known = {}
+        self.works = {}
         self.goals = {}
 
     def is_done(self):
@@ -77,19 +79,34 @@ class Reader:
         return code
 
     def assignment(self, line, places):
-        """The assignment in a line: a tuple of a sum and a code or None. None if it is another line."""
+        """The assignment in a line: a tuple of a sum, a code or None, and what is counted of the code.
+
+        It is None if the line is another one.
+        """
         words = line.split(" ")
         if words[1:2] != ["="]:
             return None
         place = places.get(words[0], ITEM)
         if place == ITEM:
             self.refuse()
-        return (place, self.code(words[2:], places))
+        code = self.code(words[2:], places)
+        return (place, code, self.needed_by(code), pluses_in(code), 0 if code is None else code.count(ITEM))
 
-    def assignments(self, places):
+    def needed_by(self, code):
+        """The set of the sums in a code that may be None; each may be there once."""
+        used = sums_in(code)
+        found = set_of(used)
+        if len(used) > 1 and len(members_of(found)) < len(used):
+            self.refuse()
+        return found
+
+    def read_work(self, places):
         """Reads the assignments behind an `on` line; the dict has the item, too."""
-        found = {}
-        uses = []
+        changes = []
+        targets = 0
+        needed = 0
+        pluses = 0
+        items = 0
         while self.at < len(self.lines):
             line = self.lines[self.at]
             # An `on` line comes so often that it is told from an assignment at once.
@@ -98,22 +115,19 @@ class Reader:
                 if told is None:
                     break
                 self.known[line] = told
-            place, code = self.known[line]
-            if place in found:
+            place, code, used, joins, many = self.known[line]
+            if targets & (1 << place) or needed & used or items + many > _MOST_ITEMS:
                 self.refuse()
-            found[place] = code
-            if code is not None:
-                self.check_uses(uses, code)
+            changes.append((place, code))
+            targets = targets | (1 << place)
+            needed = needed | used
+            pluses += joins
+            items += many
             self.at += 1
-        return tuple([(place, code) for place, code in found.items()])
-
-    def check_uses(self, uses, code):
-        """Adds the parts of a code to those that have been used, none of them too often."""
-        for step in code:
-            if step >= 0 and step in uses or step == ITEM and uses.count(ITEM) == _MOST_ITEMS:
-                self.refuse()
-            if step >= ITEM:
-                uses.append(step)
+        key = tuple(changes)
+        if key not in self.works:
+            self.works[key] = Work(key, needed, pluses, items > 1)
+        return self.works[key]
 
     def end(self, places):
         """Reads an `end` line; its code, or None."""
@@ -121,8 +135,7 @@ class Reader:
         if words[0] != "end":
             self.refuse()
         code = self.code(words[1:], places)
-        if code is not None:
-            self.check_uses([], code)
+        self.needed_by(code)
         self.at += 1
         return code
 
@@ -139,18 +152,9 @@ def _check_goals(drafts, numbers):
                 raise BadLoop(line)
 
 
-def _turns(drafts, numbers):
-    """The turns of the states; each draft is a tuple of the line, the next state and the assignments."""
-    works = {}
-    found = []
-    for draft in drafts:
-        row = []
-        for _, goal, changes in draft:
-            if changes not in works:
-                works[changes] = Work(changes)
-            row.append(Turn(numbers[goal], works[changes]))
-        found.append(tuple(row))
-    return tuple(found)
+def _turns(draft, numbers):
+    """The turns of a state; a draft has tuples of the line, the next state and the work."""
+    return tuple([Turn(numbers[goal], work) for _, goal, work in draft])
 
 
 def read_plan(text):
@@ -170,9 +174,10 @@ def read_plan(text):
         for beginning in beginnings:
             goal = reader.next_state(beginning)
             line = reader.at
-            row.append((line, goal, reader.assignments(parts)))
+            row.append((line, goal, reader.read_work(parts)))
         drafts.append(row)
         ends.append(reader.end(places))
     numbers = _numbered(states)
     _check_goals(drafts, numbers)
-    return Plan(tags, sums, tuple(states), _turns(drafts, numbers), tuple(ends))
+    turns = tuple([_turns(draft, numbers) for draft in drafts])
+    return Plan(tags, sums, tuple(states), turns, tuple(ends))
