@@ -6,37 +6,29 @@ from foldplans.duels import late_items, parting_rows_of, shortest_items
 from foldplans.early import Look
 from foldplans.forms import form_of
 from foldplans.gauges import gauge_for, gauge_of_table, parts_of
-from foldplans.leastkinds import least_by_parts, parts_for
+from foldplans.leastkinds import least_by_parts, parts_for, plainest_kind
 from foldplans.likeness import likeness
 from foldplans.machines import IN_EITHER, Machine, merged
 from foldplans.rowsets import RowSet
 from foldplans.tables import Table
 
-# The kinds with normal forms under which single loops agree exactly if they agree under the given kind.
-_FORMS = {
-    "trees": "trees",
-    "pairs": "pairs",
-    "words": "words",
-    "middles": "words",
-    "heads": "words",
-    "tails": "words",
-    "bags": "bags",
-    "parity": "bags",
-    "sets": "bags",
-}
+_KINDS_WITH_FORMS = ("trees", "pairs", "words", "bags")
+
+
+def _are_single(p, q):
+    return p.is_single and q.is_single
 
 
 def _gauges(p, q, kind):
     """The gauges for two loops and a kind."""
-    return [gauge_for(part, p.is_single and q.is_single, True) for part in parts_of(kind)]
+    return [gauge_for(part, _are_single(p, q), True) for part in parts_of(kind)]
 
 
 def _do_agree(p, q, kind):
     """Whether two loops agree under a kind, or a part of one, under which they can be compared."""
-    if kind in _FORMS and p.is_single and q.is_single:
-        one = form_of(p.plan, _FORMS[kind])
-        two = form_of(q.plan, _FORMS[kind])
-        return likeness(one, two, (0, 0, ())) is not None
+    plainest = plainest_kind(kind, _are_single(p, q))
+    if plainest in _KINDS_WITH_FORMS and _are_single(p, q):
+        return likeness(form_of(p.plan, plainest), form_of(q.plan, plainest), (0, 0, ())) is not None
     return all([shortest_items(p.plan, q.plan, gauge) is None for gauge in _gauges(p, q, kind)])
 
 
@@ -83,7 +75,7 @@ def parting(p, q, kind):
 def least_kinds(p, q):
     """The kinds under which two loops agree, while they agree under no weaker kind."""
     check_tags(p, q)
-    are_single = p.is_single and q.is_single
+    are_single = _are_single(p, q)
     return least_by_parts(are_single, [part for part in parts_for(are_single) if _do_agree(p, q, part)])
 
 
@@ -126,7 +118,7 @@ def agreeing_tags(p, q, kind):
 
 def _agree_by_kind(p, q, kind):
     """Whether two loops agree under the kind of a table, as far as they can be compared under it."""
-    if kind in ("trees", "pairs") and not (p.is_single and q.is_single):
+    if kind in ("trees", "pairs") and not _are_single(p, q):
         return False
     return _do_agree(p, q, kind)
 
@@ -174,7 +166,8 @@ def parting_rows(p, q, kind):
     """The rows of tags for which the results of two loops do not agree under a kind."""
     check_tags(p, q)
     check_kind([p, q], kind)
-    machines = [parting_rows_of(p.plan, q.plan, gauge) for gauge in _gauges(p, q, kind)]
+    gauges = _gauges(p, q, plainest_kind(kind, _are_single(p, q)))
+    machines = [parting_rows_of(p.plan, q.plan, gauge) for gauge in gauges]
     found = machines[0]
     for machine in machines[1:]:
         found = merged(found, machine, IN_EITHER)

@@ -18,7 +18,7 @@ def _alike_numbers(images, accepting):
     followers = [[members_of(members) for members in row] for row in zip(*images)]
     places = [1 if has_member(accepting, number) else 0 for number in range(len(followers))]
     before = 0
-    many = 1 + max([int(place) for place in places])
+    many = len({place: True for place in places})
     while before < many:
         before = many
         known = {}
@@ -92,7 +92,7 @@ def _needed(members, better):
     return found
 
 
-def _walked(first, images, better, limit):
+def _walked(first, images, limit):
     """The sets that are reached and the rows of those that follow; None if there are too many of them."""
     numbers = {first: 0}
     sets = [first]
@@ -103,8 +103,6 @@ def _walked(first, images, better, limit):
         row = []
         for table in images:
             later = union_of(table, sets[len(nexts)])
-            if better is not None:
-                later = _needed(later, better)
             if later not in numbers:
                 numbers[later] = len(sets)
                 sets.append(later)
@@ -113,9 +111,9 @@ def _walked(first, images, better, limit):
     return sets, nexts
 
 
-def _forwards(images, accepting, start, better, limit):
+def _forwards(images, accepting, limit):
     """The machine, by the sets that rows lead to; None if there are too many of them."""
-    walked = _walked(1 << start, images, better, limit)
+    walked = _walked(1, images, limit)
     if walked is None:
         return None
     sets, nexts = walked
@@ -124,28 +122,99 @@ def _forwards(images, accepting, start, better, limit):
 
 def _backwards(images, accepting, start, limit):
     """The machine, by the sets from which rows are accepted; None if there are too many of them."""
-    walked = _walked(accepting, _turned(images), None, limit)
+    walked = _walked(accepting, _turned(images), limit)
     if walked is None:
         return None
     sets, nexts = walked
     first = set_of([number for number, members in enumerate(sets) if has_member(members, start)])
     tables = [[1 << row[tag] for row in nexts] for tag in range(len(images))]
-    sets, nexts = _walked(first, _turned(tables), None, 1 << len(sets))
+    sets, nexts = _walked(first, _turned(tables), 1 << len(sets))
     return Machine(nexts, [has_member(members, 0) for members in sets], 0)
 
 
-def determined(images, accepting):
-    """The machine for the rows that are accepted from the number 0."""
-    limit = _FIRST_LIMIT
-    found = _forwards(images, accepting, 0, None, limit)
-    if found is not None:
-        return found
+def _useful_ones(lower, images, accepting):
+    """For each state of a machine the numbers with a row that is accepted from them, but not from it."""
+    backwards = _turned(images)
+    found = [0 if accepts else accepting for accepts in lower.accepting]
+    waiting = list(range(len(found)))
+    while waiting:
+        changed = {state: True for state in waiting}
+        later = {}
+        for state, row in enumerate(lower.nexts):
+            for tag, goal in enumerate(row):
+                if goal in changed:
+                    more = union_of(backwards[tag], found[goal]) & ~found[state]
+                    if more:
+                        found[state] = found[state] | more
+                        later[state] = True
+        waiting = list(later)
+    return found
+
+
+def _beside(lower, images, accepting, first, counting, limit):
+    """The machine for the rows that are accepted; None if there are too many sets.
+
+    The lower machine accepts some of these rows, and no others. `counting` tells which numbers count:
+    for each number the set of better ones, and for each state of the machine the set of useful ones.
+    """
+    better, useful = counting
+    first = (0, first & useful[0])
+    numbers = {first: 0}
+    pairs = [first]
+    nexts = []
+    while len(nexts) < len(pairs):
+        if len(pairs) > limit:
+            return None
+        state, members = pairs[len(nexts)]
+        row = []
+        for table, goal in zip(images, lower.nexts[state]):
+            behind = (goal, _needed(union_of(table, members) & useful[goal], better))
+            if behind not in numbers:
+                numbers[behind] = len(pairs)
+                pairs.append(behind)
+            row.append(numbers[behind])
+        nexts.append(row)
+    answers = [lower.accepting[state] or members & accepting != 0 for state, members in pairs]
+    return Machine(nexts, answers, 0)
+
+
+def _up_to(images, accepting, levels, level):
+    """The images and the accepting numbers for the numbers of at most this level alone."""
+    kept = [number for number in range(len(levels)) if levels[number] <= level]
+    places = {number: at for at, number in enumerate(kept)}
+    found = [
+        [set_of([places[goal] for goal in members_of(table[number]) if goal in places]) for number in kept]
+        for table in images
+    ]
+    return found, set_of([places[number] for number in members_of(accepting) if number in places])
+
+
+def _with_level(lower, images, accepting):
+    """The machine for the rows that are accepted; the lower one accepts some of them, and no others."""
     images, accepting, start = _merged(images, accepting)
-    better = _better_ones(images, accepting)
+    counting = (_better_ones(images, accepting), _useful_ones(lower, images, accepting))
+    found = None
+    limit = _FIRST_LIMIT
     # One of the two directions may need far more sets than the other; it is not known which.
     while found is None:
-        limit = limit * 4
-        found = _forwards(images, accepting, start, better, limit)
+        limit = limit * 8
+        found = _beside(lower, images, accepting, 1 << start, counting, limit)
         if found is None:
             found = _backwards(images, accepting, start, limit)
+    return found
+
+
+def determined(images, accepting, levels):
+    """The machine for the rows that are accepted from the number 0.
+
+    Each number has a level, the first one has level 0; none leads to a lower one.
+    """
+    found = _forwards(images, accepting, _FIRST_LIMIT)
+    if found is not None:
+        return found
+    # What can be told with few marks tells most of it.
+    found = Machine([[0] * len(images)], [False], 0)
+    for level in range(1 + max([int(level) for level in levels])):
+        some, ends = _up_to(images, accepting, levels, level)
+        found = _with_level(found, some, ends)
     return found

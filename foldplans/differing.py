@@ -25,7 +25,8 @@ class Pairs:
     """The pairs of cases that a row of tags can lead to, for all ways to give the marks.
 
     `images[tag][pair]` is the set of the pairs that can follow. Pairs without a difference in what can
-    still come are left out. `parting` is the set of the pairs whose results differ.
+    still come are left out. `parting` is the set of the pairs whose results differ. `levels[pair]` tells
+    how many marks have been given.
     """
 
     def __init__(self, cases, one, two):
@@ -43,6 +44,7 @@ class Pairs:
             at += 1
         outcomes = cases.outcomes
         self.parting = set_of([k for k, (p, q) in enumerate(self.found) if outcomes[p] != outcomes[q]])
+        self.levels = [cases.used[p] for p, _ in self.found]
 
     def _number(self, one, two):
         """The number of a pair; cases of one class have the same number."""
@@ -69,4 +71,4 @@ def parting_machine(cases, one, two):
     pairs = Pairs(cases, one, two)
     if pairs.places[one] == pairs.places[two]:
         return Machine([[0] * cases.many_tags], [False], 0)
-    return determined(pairs.images, pairs.parting)
+    return determined(pairs.images, pairs.parting, pairs.levels)

@@ -3,6 +3,14 @@
 from foldplans.gauges import parts_of
 from foldplans.rules import all_kinds, rules_of
 
+# For single loops, agreement under these kinds is the same as under others.
+_SAME = {"middles": "words", "heads": "words", "tails": "words", "parity": "bags", "sets": "bags"}
+
+
+def plainest_kind(kind, are_single):
+    """A kind under which agreement is the same, for two loops that are both single, or not."""
+    return _SAME.get(kind, kind) if are_single else kind
+
 
 def kinds_for(are_single):
     """The kinds that are looked at for two loops that are both single, or not."""

@@ -3,7 +3,7 @@
 from foldplans.checks import check_tags
 from foldplans.duels import parting_rows_of
 from foldplans.gauges import gauge_for
-from foldplans.leastkinds import kinds_for, least_by_parts, least_of, parts_for
+from foldplans.leastkinds import kinds_for, least_by_parts, least_of, parts_for, plainest_kind
 from foldplans.machines import Machine
 from foldplans.rowsets import RowSet
 from foldplans.trees import do_agree
@@ -20,6 +20,16 @@ def kinds_at(p, q, row):
     if one is None or two is None:
         return []
     return least_of([kind for kind in kinds if do_agree(one, two, kind)])
+
+
+def _machines_for(p, q, parts, are_single):
+    """For each part the machine for the rows for which the results do not agree."""
+    found = {}
+    for part in parts:
+        plainest = plainest_kind(part, are_single)
+        if plainest not in found:
+            found[plainest] = parting_rows_of(p.plan, q.plan, gauge_for(plainest, are_single, True))
+    return [found[plainest_kind(part, are_single)] for part in parts]
 
 
 def _followed_together(machines):
@@ -49,7 +59,7 @@ def rows_by_kinds(p, q):
     check_tags(p, q)
     are_single = p.is_single and q.is_single
     parts = parts_for(are_single)
-    machines = [parting_rows_of(p.plan, q.plan, gauge_for(part, are_single, True)) for part in parts]
+    machines = _machines_for(p, q, parts, are_single)
     found, nexts = _followed_together(machines)
     answers = [
         tuple([part for part, machine, state in zip(parts, machines, states) if not machine.accepting[state]])

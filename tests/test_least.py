@@ -305,6 +305,18 @@ class TestHeldApart(unittest.TestCase):
             self.assertEqual(self.check(Loop(text), kind), many)
         self.assertEqual(sorted(held_apart(Loop(text), "words")[2][0, 1]), [["u"], ["v"]])
 
+    def test_sides_that_are_exchanged_are_no_reason_under_pairs(self):
+        text = (
+            "tags t u v\nsums a b\nstate s\non t go p\na = x\non u go s\non v go s\nend none\n"
+            "state p\non t go q\nb = x\non u go p\non v go p\nend none\n"
+            "state q\non t go o\non u go r\na = a + b\non v go r\na = b + a\nend none\n"
+            "state r\non t go r\non u go r\non v go r\nend a\n"
+            "state o\non t go r\na = ( a + x ) + b\non u go o\non v go o\nend none"
+        )
+        for kind, many in (("trees", 2), ("pairs", 2), ("words", 2), ("bags", 1)):
+            self.assertEqual(self.check(Loop(text), kind), many)
+        self.assertEqual(held_apart(Loop(text), "pairs")[2], {(0, 1): [["t", "t"]]})
+
     def test_no_result(self):
         self.assertEqual(held_apart(Loop(SILENT), "trees"), ([], [], {}))
 
