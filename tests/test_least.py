@@ -15,6 +15,7 @@ from foldplans.trees import do_agree, letters
 from tests.loop_texts import DOUBLED, FOLD, SILENT
 from tests.pairs_of_loops import parting_rows_up_to, rows_over
 from tests.reference import Spelled
+from tests.rewriting import Rewriter
 from tests.samples import Soon
 from tests.single_pairs import KINDS, comb, great_pairs, quad, single_pairs
 
@@ -171,6 +172,9 @@ class TestBrackets(unittest.TestCase):
             self.assertEqual([len(form.sums), len(form.states)], [43, 46])
             for row in (["t"] * 44, ["t"] * 44 + ["v"], ["t"] * 43 + ["u", "v", "t", "t", "v", "u"]):
                 self.assertEqual(form.tree(row), loop.tree(row))
+            names = ["n" + one + two for one in "abcdefghij" for two in "abcdefghij"]
+            other = Loop(Rewriter(aside).rewritten_with(loop.text, names))
+            self.assertEqual(normal_form(other, "trees").text, form.text)
 
 
 class TestWidths(unittest.TestCase):
