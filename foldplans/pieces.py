@@ -59,10 +59,12 @@ class Summary:
         """The summary of this piece followed by another one."""
         if self._loop != other._loop:
             raise NotNeighbours()
-        found = Summary(self._loop, [], self._operation)
+        effects = {}
         for number, (state, held) in self._effects.items():
             goal, later = other._effects[state]
-            found._effects[number] = (goal, [self._filled(parts, held) for parts in later])
+            effects[number] = (goal, [self._filled(parts, held) for parts in later])
+        found = Summary(self._loop, [], self._operation)
+        found._effects = effects
         return found
 
     def _filled(self, parts, held):
