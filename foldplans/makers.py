@@ -65,7 +65,7 @@ def lanes(tags, k):
     # First each lane gets its first item; then the states go round.
     turns = [(lane + 1, ((lane, (ITEM,)),)) for lane in range(k)]
     turns = turns + [(k + (lane + 1 if lane + 1 < k else 0), ((lane, _behind(lane)),)) for lane in range(k)]
-    ends = [_together(range(filled)) for filled in range(k)] + [_together(range(k))] * k
+    ends = [_together(list(range(filled))) for filled in range(k)] + [_together(list(range(k)))] * k
     return _uniform(tags, k, turns, ends)
 
 
@@ -98,7 +98,7 @@ def latest(tags, k):
     _check(tags, k)
     turns = [(many + 1, ((many, (ITEM,)),)) for many in range(k)]
     moved = [(place, (place + 1,)) for place in range(k - 1)] + [(k - 1, (ITEM,))]
-    return _uniform(tags, k, turns + [(k, moved)], [_together(range(many)) for many in range(k + 1)])
+    return _uniform(tags, k, turns + [(k, moved)], [_together(list(range(many))) for many in range(k + 1)])
 
 
 def every(tags, k):

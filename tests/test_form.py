@@ -107,6 +107,87 @@ def called_names(node):
                 yield call.func.attr
 
 
+# What is iterated on the spot and not handed on: calls of these builtins, and of these methods.
+VIEWS = ("items", "keys", "values")
+ITERATED = ("range", "zip", "enumerate", "reversed", *VIEWS)
+TAKERS = ("list", "tuple", "dict", "sorted", "sum", "any", "all", "enumerate", "zip", "bytes")
+
+
+def called(node):
+    """The name of the function or method that a node calls, None if it is no call."""
+    if not isinstance(node, ast.Call):
+        return None
+    return getattr(node.func, "id", getattr(node.func, "attr", None))
+
+
+def is_iterated_call(node):
+    """Whether a node is a call whose result has to be iterated on the spot."""
+    name = called(node)
+    return name in ITERATED and isinstance(node.func, ast.Attribute) == (name in VIEWS)
+
+
+def is_asked_by_in(what, parent):
+    """Whether a comparison asks only what is in a range or among the keys of a dict."""
+    return isinstance(parent, ast.Compare) and parent.comparators == [what] and isinstance(
+        parent.ops[0], (ast.In, ast.NotIn)
+    )
+
+
+def is_taken_at_once(what, name, parent):
+    """Whether what a call of this name gives, `what`, is iterated by the node around it."""
+    if isinstance(parent, (ast.For, ast.comprehension)):
+        return parent.iter is what
+    taker = called(parent)
+    if taker is None or parent.args[:1] != [what]:
+        return name in ("range", "keys") and is_asked_by_in(what, parent)
+    if isinstance(parent.func, ast.Attribute):
+        return taker == "join" and isinstance(parent.func.value, ast.Constant)
+    if taker in ("min", "max"):
+        return len(parent.args) == 1 and all(one.arg == "default" for one in parent.keywords)
+    return taker in TAKERS or taker == "len" and name in ("range", *VIEWS) or taker == "reversed" and name == "range"
+
+
+def parents_in(tree):
+    return {child: node for node in ast.walk(tree) for child in ast.iter_child_nodes(node)}
+
+
+def is_kept_well(name, target, function, parents):
+    """Whether a variable of a function keeps what a call of this name gives, and only for being iterated."""
+    uses = [node for node in ast.walk(function) if isinstance(node, ast.Name) and node.id == target.id]
+    if name != "range" or [node for node in uses if isinstance(node.ctx, ast.Store)] != [target]:
+        return False
+    for node in uses:
+        around = [parents[node]]
+        while around[-1] is not function:
+            around.append(parents[around[-1]])
+        if any(isinstance(one, (ast.Lambda, ast.FunctionDef, ast.GeneratorExp)) for one in around[:-1]):
+            return False
+        is_index = isinstance(around[0], ast.Subscript) and not isinstance(around[0].slice, ast.Slice)
+        if node is not target and not is_index and not is_taken_at_once(node, name, around[0]):
+            return False
+    return True
+
+
+def calls_not_iterated_at_once(tree):
+    """The lines of the calls that give what has to be iterated on the spot, but is handed on or stored (L23)."""
+    parents = parents_in(tree)
+    for node in ast.walk(tree):
+        if is_iterated_call(node):
+            parent = parents[node]
+            function = parent
+            while not isinstance(function, (ast.FunctionDef, ast.Module)):
+                function = parents[function]
+            is_kept = (
+                isinstance(parent, ast.Assign)
+                and isinstance(function, ast.FunctionDef)
+                and isinstance(parent.targets[0], ast.Name)
+                and len(parent.targets) == 1
+                and is_kept_well(called(node), parent.targets[0], function, parents)
+            )
+            if not is_kept and not is_taken_at_once(node, called(node), parent):
+                yield node.lineno
+
+
 class TestPlaces(unittest.TestCase):
     def test_the_folder_has_only_python_files(self):
         for name, _ in files():
@@ -231,6 +312,45 @@ class TestWords(unittest.TestCase):
             part.name for _, node in nodes(ast.ClassDef) for part in node.body if isinstance(part, ast.FunctionDef)
         }
         self.assertEqual(stored & methods, set())
+
+
+class TestIteratedAtOnce(unittest.TestCase):
+    """Ranges and the like are iterated on the spot: not handed on to functions of the package, not stored."""
+
+    def test_in_the_package(self):
+        for name, text in files():
+            self.assertEqual([(name, line) for line in calls_not_iterated_at_once(ast.parse(text))], [])
+
+    def found_in(self, row):
+        text = "def f(d, k, xs):\n    " + row.replace("\n", "\n    ")
+        return list(calls_not_iterated_at_once(ast.parse(text)))
+
+    def test_what_is_handed_on_or_stored_is_found(self):
+        rows = [
+            "return g(range(k))", "return xs.g(k, range(k))", "return g(at=range(k))", "return [g(range(n)) for n in xs]",
+            "return g(zip(xs, xs))", "return g(enumerate(xs))", "return g(reversed(xs))", "return g(d.items())",
+            "return g(d.keys())", "return g(d.values())", "return range(k)", "return [range(k)]", "return (d.items(), 1)",
+            "xs.held = range(k)", "xs[0] = d.values()", "xs.append(range(k))", "return {1: range(k)}", "return set(d.values())",
+            "return len(zip(xs, xs))", "return len(list(xs)) == range(k)", "return max(range(k), key=int)",
+            "return max(k, range(k))", "return reversed(d.items())", "return zip(xs, range(k))", "return xs.join(d.keys())",
+            "return range(k) if k else 0", "rows = range(k)\nreturn g(rows)", "rows = range(k)\nrows = xs\nreturn len(rows)",
+            "rows = range(k)\nreturn lambda n: rows[n]", "rows = range(k)\nxs.held = rows", "rows = range(k)\nreturn rows[1:]",
+            "rows = other = range(k)\nreturn len(rows)", "rows = d.items()\nreturn rows", "return k in d.values()",
+        ]
+        for row in rows:
+            self.assertEqual(len(self.found_in(row)) > 0, True, row)
+
+    def test_what_is_iterated_on_the_spot_may_stand(self):
+        rows = [
+            "for n in range(k):\n    pass", "return [a for a, b in zip(xs, xs) if a in range(k)]", "return list(range(k))",
+            "return sorted(d.items(), key=int)", "return sum(range(k))", "return max(d.values(), default=0)",
+            "return ' '.join(d.keys())", "return list(zip(range(k), xs))", "return list(enumerate(d.values()))",
+            "return len(range(k)) + len(d.items())", "return list(reversed(range(k)))", "return k in d.keys()",
+            "rows = range(k)\nreturn [rows[n] for n in rows if n in rows] + list(rows)", "return g(list(range(k)))",
+            "return dict(zip(xs, xs))", "return {a: b for a, b in d.items()}",
+        ]
+        for row in rows:
+            self.assertEqual(self.found_in(row), [], row)
 
 
 class TestOperators(unittest.TestCase):
