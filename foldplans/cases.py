@@ -1,17 +1,14 @@
 """What loops can hold over a gauge, case by case, and where two cases lead to different results.
 
-A case is a state of a loop with what its sums hold and what is used up. Sums that come into no result
-from there count as if they held 0. The signs are the items: a tag and a letter of the gauge; they are
-numbered, the letters of the first tag first.
+A case is a state of a loop with what is used up and what its sums hold. The signs are the items: a tag and
+a letter of the gauge; they are numbered, the letters of the first tag first.
 """
 
-from foldplans.codes import worked_out
-from foldplans.lives import living_sums
+from foldplans.following import Follower
 
 # The case behind an item that may not be there.
 NEVER = 0
 _NO_CASE = -2
-_NO_RESULT = -1
 
 
 class Cases:
@@ -24,7 +21,7 @@ class Cases:
     def __init__(self, gauge, many_tags):
         self.gauge = gauge
         self.many_tags = many_tags
-        self.nexts = [[NEVER] * (many_tags * len(gauge.letters))]
+        self.nexts = [[NEVER] * (many_tags * gauge.many_letters)]
         self.outcomes = [_NO_CASE]
         self.used = [0]
         self.marks = [""]
@@ -32,8 +29,8 @@ class Cases:
     def start_of(self, plan):
         """Adds the cases of a loop; the number of the one in which its runs begin."""
         start = len(self.nexts)
-        living = living_sums(plan)
-        first = (0, 0, (0,) * len(plan.sums))
+        follower = Follower(plan, self.gauge)
+        first = (0, 0, follower.beginning)
         numbers = {first: start}
         found = [first]
         at = 0
@@ -41,36 +38,18 @@ class Cases:
             state, used, held = found[at]
             at += 1
             row = []
-            for turn in plan.turns[state]:
-                for case in self._behind(turn, used, held, living[turn.goal]):
-                    if case is None:
-                        row.append(NEVER)
-                    else:
-                        if case not in numbers:
-                            numbers[case] = start + len(found)
-                            found.append(case)
-                        row.append(numbers[case])
-            self._keep(row, used, held, self._outcome(plan.ends[state], held))
+            for turn in follower.turns[state]:
+                behind = [NEVER] * self.gauge.many_letters
+                after = follower.held_behind(turn, used, held)
+                for (letter, _), (later, kept) in zip(self.gauge.supply[used], after):
+                    case = (turn.goal, later, kept)
+                    if case not in numbers:
+                        numbers[case] = start + len(found)
+                        found.append(case)
+                    behind[letter] = numbers[case]
+                row.extend(behind)
+            self._keep(row, used, held, follower.outcome(state, held))
         return start
-
-    def _behind(self, turn, used, held, living):
-        """The cases behind an item, for each letter; None for a letter that the item may not have."""
-        found = []
-        for letter, later in zip(self.gauge.letters, self.gauge.supply[used]):
-            if later is None:
-                found.append(None)
-            else:
-                after = turn.held_behind(held, letter, self._joined)
-                kept = [value if place in living and value is not None else 0 for place, value in enumerate(after)]
-                found.append((turn.goal, later, tuple(kept)))
-        return found
-
-    def _joined(self, left, right):
-        return self.gauge.rows[left][right]
-
-    def _outcome(self, code, held):
-        found = worked_out(code, held, None, self._joined)
-        return _NO_RESULT if found is None else found
 
     def _keep(self, row, used, held, outcome):
         self.nexts.append(row)
@@ -100,13 +79,16 @@ def classes(cases):
     return places
 
 
-def first_difference(cases, one, two):
-    """The signs of a shortest list for which two cases have different results, None if there is none."""
+def first_difference(cases, one, two, most):
+    """The signs of a shortest list for which two cases have different results, None if there is none.
+
+    Unless `most` is None, lists with more signs are left out of account.
+    """
     places, many = _numbered(cases.outcomes)
     levels = [places]
     before = 0
     while levels[-1][one] == levels[-1][two]:
-        if before == many:
+        if before == many or len(levels) - 1 == most:
             return None
         before = many
         places, many = _refined(levels[-1], cases.nexts)

@@ -47,6 +47,11 @@ def sums_in(code):
     return [step for step in code if step >= 0]
 
 
+def letters_in(code):
+    """What a code puts together: its steps but each +, a tuple."""
+    return tuple([step for step in code if step != PLUS])
+
+
 def pluses_in(code):
     """How many + a code has that may be None."""
     if code is None:
@@ -69,18 +74,24 @@ def depths_in(code):
     return ready[0]
 
 
-def worked_out(code, held, item, operation):
-    """The value of a code; `held` is what the sums hold. It is None if the code is None."""
+def worked_out(code, slots, operation):
+    """The value of a code; the slots are what the sums hold, and behind them the item.
+
+    It is None if the code is None.
+    """
     if code is None:
         return None
+    # The number of the item stands for the last slot. Most codes are a single part, or two of them.
+    if len(code) == 1:
+        return slots[code[0]]
+    if len(code) == 3:
+        return operation(slots[code[0]], slots[code[1]])
     ready = []
     for step in code:
         if step == PLUS:
             right = ready.pop()
             left = ready.pop()
             ready.append(operation(left, right))
-        elif step == ITEM:
-            ready.append(item)
         else:
-            ready.append(held[step])
+            ready.append(slots[step])
     return ready[0]

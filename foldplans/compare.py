@@ -6,11 +6,11 @@ from foldplans.duels import late_items, parting_rows_of, shortest_items
 from foldplans.early import Look
 from foldplans.forms import form_of
 from foldplans.gauges import gauge_for, gauge_of_table, parts_of
-from foldplans.leastkinds import least_by_parts, parts_for, plainest_kind
+from foldplans.leastkinds import least_by_parts, needed_parts, parts_for, plainest_kind
 from foldplans.likeness import likeness
 from foldplans.machines import IN_EITHER, Machine, merged
 from foldplans.rowsets import RowSet
-from foldplans.tables import Table
+from foldplans.tables import table_of_rows
 
 _KINDS_WITH_FORMS = ("trees", "pairs", "words", "bags")
 
@@ -21,15 +21,32 @@ def _are_single(p, q):
 
 def _gauges(p, q, kind):
     """The gauges for two loops and a kind."""
-    return [gauge_for(part, _are_single(p, q), True) for part in parts_of(kind)]
+    are_single = _are_single(p, q)
+    return [gauge_for(part, are_single, True) for part in needed_parts(kind, are_single)]
+
+
+def _told_by_forms(p, q, kind):
+    """Whether two loops agree under a kind, or a part of one; None if forms do not tell it."""
+    if kind == "one" or not _are_single(p, q):
+        return None
+    plainest = plainest_kind(kind, True)
+    # The kinds for which there are no forms are stronger than words.
+    is_exact = plainest in _KINDS_WITH_FORMS
+    under = plainest if is_exact else "words"
+    if likeness(form_of(p.plan, under), form_of(q.plan, under), (0, 0, ())) is not None:
+        return True
+    return False if is_exact else None
 
 
 def _do_agree(p, q, kind):
     """Whether two loops agree under a kind, or a part of one, under which they can be compared."""
-    plainest = plainest_kind(kind, _are_single(p, q))
-    if plainest in _KINDS_WITH_FORMS and _are_single(p, q):
-        return likeness(form_of(p.plan, plainest), form_of(q.plan, plainest), (0, 0, ())) is not None
-    return all([shortest_items(p.plan, q.plan, gauge) is None for gauge in _gauges(p, q, kind)])
+    told = _told_by_forms(p, q, kind)
+    if told is not None:
+        return told
+    for gauge in _gauges(p, q, kind):
+        if shortest_items(p.plan, q.plan, gauge) is not None:
+            return False
+    return True
 
 
 def agree(p, q, kind):
@@ -53,23 +70,24 @@ def _parting_over(p, q, gauge, items):
     rows = gauge.rows
     operation = lambda a, b: rows[a][b]
     given = [(p.tags[tag], value) for tag, value in items]
-    return Parting(given, Table.of(len(rows), operation), (p.run(given, operation), q.run(given, operation)))
+    return Parting(given, table_of_rows(rows), (p.run(given, operation), q.run(given, operation)))
 
 
 def parting(p, q, kind):
     """A shortest list and a table of the kind for which two loops differ, or None if they agree."""
     check_tags(p, q)
     check_kind([p, q], kind)
-    if _do_agree(p, q, kind):
+    if _told_by_forms(p, q, kind):
         return None
     shortest = None
     chosen = None
     for gauge in _gauges(p, q, kind):
-        items = shortest_items(p.plan, q.plan, gauge)
-        if items is not None and (shortest is None or len(items) < len(shortest)):
+        # Another gauge is of use only if it shows something by a shorter list.
+        items = shortest_items(p.plan, q.plan, gauge, None if shortest is None else len(shortest) - 1)
+        if items is not None:
             shortest = items
             chosen = gauge
-    return _parting_over(p, q, chosen, shortest)
+    return None if shortest is None else _parting_over(p, q, chosen, shortest)
 
 
 def least_kinds(p, q):
@@ -127,7 +145,7 @@ def parting_in(p, q, table):
     """A shortest list for which two loops have different results in a table, or None."""
     check_tags(p, q)
     gauge = gauge_of_table(table)
-    items = Look(p.plan, q.plan, gauge).shortest()
+    items = Look(p.plan, q.plan, gauge).shortest(None)
     if items is None and not _agree_by_kind(p, q, table.kind):
         items = late_items(p.plan, q.plan, gauge)
     if not items:

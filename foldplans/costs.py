@@ -3,6 +3,7 @@
 from foldplans.bits import has_member, set_of
 from foldplans.codes import pluses_in, sums_in
 from foldplans.errors import OtherTags
+from foldplans.lives import wanted_ahead
 from foldplans.walks import greatest_total
 
 
@@ -12,7 +13,7 @@ def cost(loop, tags):
     total = 0
     for index, tag in enumerate(tags):
         turn = loop.turn(state, tag, index)
-        total += turn.pluses
+        total += turn.work.pluses
         state = turn.goal
     return total + pluses_in(loop.plan.ends[state])
 
@@ -22,16 +23,6 @@ def waste(loop, tags):
     total = cost(loop, tags)
     kept = loop.run([(tag, 0) for tag in tags], lambda left, right: left + right + 1)
     return total if kept is None else total - kept
-
-
-def _wanted_ahead(turn, wanted):
-    """The sums ahead of an `on` line of which the result has the values.
-
-    `wanted` are the sums behind the line of which it has them.
-    """
-    changed = set_of([place for place, _ in turn.changes]) | set_of(turn.used)
-    moved = [used for place, code in turn.changes if has_member(wanted, place) for used in sums_in(code)]
-    return set_of(moved) | (wanted & ~changed)
 
 
 def _lost(turn, wanted):
@@ -66,7 +57,7 @@ def greatest_waste(loop):
     while waiting:
         goal, wanted = waiting.pop()
         for state, turn in arrivals[goal]:
-            ahead = (state, _wanted_ahead(turn, wanted))
+            ahead = (state, wanted_ahead(turn, wanted))
             if ahead not in nodes:
                 nodes[ahead] = len(nodes)
                 waiting.append(ahead)
@@ -91,7 +82,7 @@ def greatest_lead(p, q):
             if pair not in nodes:
                 nodes[pair] = len(pairs)
                 pairs.append(pair)
-            leads.append((nodes[pair], left.pluses - right.pluses))
+            leads.append((nodes[pair], left.work.pluses - right.work.pluses))
         ways.append(leads)
     ends = [pluses_in(p.plan.ends[one]) - pluses_in(q.plan.ends[two]) for one, two in pairs]
     return greatest_total(ways, ends)

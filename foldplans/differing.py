@@ -56,7 +56,7 @@ class Pairs:
 
     def _behind(self, one, two, tag):
         """The numbers of the pairs that can follow behind an item with this tag."""
-        many = len(self.cases.gauge.letters)
+        many = self.cases.gauge.many_letters
         lefts = self.cases.nexts[one][tag * many:tag * many + many]
         rights = self.cases.nexts[two][tag * many:tag * many + many]
         kept = []

@@ -1,66 +1,85 @@
 """A first look for a short list that has different results over a gauge."""
 
-from foldplans.codes import worked_out
+from foldplans.following import Follower
 
-# How many items are looked at.
+# How many steps are looked at, about.
 _GREATEST_EFFORT = 3000
 
 
 class Look:
     """Two plans that are followed together over a gauge, list by list.
 
-    A node tells what is used up, and for both plans the state and what the sums hold; where a sum holds
-    nothing, it counts as if it held 0.
+    A node tells what is used up, and for both plans the state and what the sums hold. The nodes that are
+    met are numbered.
     """
 
     def __init__(self, one, two, gauge):
-        self.plans = (one, two)
+        self.one = Follower(one, gauge)
+        self.two = Follower(two, gauge)
         self.gauge = gauge
-        self.signs = [(tag, at) for tag in range(len(one.tags)) for at in range(len(gauge.letters))]
+        self.nodes = [(0, 0, self.one.beginning, 0, self.two.beginning)]
+        self.numbers = {self.nodes[0]: 0}
+        # For each node how many items lead to it, and the node ahead with the tag and the place of the
+        # letter in the supply.
+        self.lengths = [0]
+        self.origins = [None]
+        self.known = {}
 
-    def _joined(self, left, right):
-        return self.gauge.rows[left][right]
+    def _turns(self, state, other):
+        """The turns of both plans for each tag, with its number; if tags do the same, the first is enough."""
+        key = (state, other)
+        if key not in self.known:
+            firsts = {}
+            for tag, turns in enumerate(zip(self.one.turns[state], self.two.turns[other])):
+                firsts.setdefault(turns, tag)
+            self.known[key] = [(tag, left, right) for (left, right), tag in firsts.items()]
+        return self.known[key]
 
-    def _behind(self, node, tag, at):
-        """The node behind an item with this tag and this letter; None if it may not have the letter."""
-        later = self.gauge.supply[node[0]][at]
-        if later is None:
-            return None
+    def _go_on(self, at):
+        """Meets the nodes that follow a node; how many steps lead there."""
+        used, state, held, other, likewise = self.nodes[at]
+        steps = 0
+        for tag, left, right in self._turns(state, other):
+            lefts = self.one.held_behind(left, used, held)
+            rights = self.two.held_behind(right, used, likewise)
+            steps += len(lefts)
+            for choice, (later, after) in enumerate(lefts):
+                node = (later, left.goal, after, right.goal, rights[choice][1])
+                if node not in self.numbers:
+                    self.numbers[node] = len(self.nodes)
+                    self.nodes.append(node)
+                    self.lengths.append(self.lengths[at] + 1)
+                    self.origins.append((at, tag, choice))
+        return steps
+
+    def _items_to(self, at):
+        """The items that lead to a node, tuples of the number of a tag and a value."""
         found = []
-        for plan, (state, held) in zip(self.plans, node[1:]):
-            turn = plan.turns[state][tag]
-            after = turn.held_behind(held, self.gauge.letters[at], self._joined)
-            found.append((turn.goal, tuple([0 if value is None else value for value in after])))
-        return (later, found[0], found[1])
+        while at > 0:
+            at, tag, choice = self.origins[at]
+            used = self.nodes[at][0]
+            found.append((tag, self.gauge.supply[used][choice][0]))
+        return found[::-1]
 
-    def _differs(self, node):
+    def _differs(self, at):
         """Whether the results are different if the list ends there."""
-        told = [
-            worked_out(plan.ends[state], held, None, self._joined)
-            for plan, (state, held) in zip(self.plans, node[1:])
-        ]
-        return told[0] != told[1]
+        _, state, held, other, likewise = self.nodes[at]
+        return self.one.outcome(state, held) != self.two.outcome(other, likewise)
 
-    def shortest(self):
+    def shortest(self, most):
         """A shortest list with different results, of tuples of a tag number and a value.
 
         It is None if nothing is known behind some effort, and the empty list if there is no such list.
+        Unless `most` is None, longer lists are left out of account.
         """
-        one, two = [(0, (0,) * len(plan.sums)) for plan in self.plans]
-        first = (0, one, two)
-        lists = {first: []}
-        waiting = [first]
         at = 0
-        while at < len(waiting):
-            node = waiting[at]
-            if self._differs(node):
-                return [(tag, self.gauge.letters[letter]) for tag, letter in lists[node]]
-            at += 1
-            if at * len(self.signs) > _GREATEST_EFFORT:
+        effort = 0
+        while at < len(self.nodes):
+            if self._differs(at):
+                return self._items_to(at)
+            if effort > _GREATEST_EFFORT:
                 return None
-            for sign in self.signs:
-                behind = self._behind(node, sign[0], sign[1])
-                if behind is not None and behind not in lists:
-                    lists[behind] = lists[node] + [sign]
-                    waiting.append(behind)
+            if most is None or self.lengths[at] < most:
+                effort += self._go_on(at)
+            at += 1
         return []

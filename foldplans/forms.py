@@ -14,16 +14,20 @@ class Form:
 
     `under` is the kind. `states[state]` is the number of the state in the plan; states that no list
     reaches are left out.
-    `turns[state][tag]` is a tuple of the next state and its contents: for each of its blocks the shape
-    over the blocks of the state and the item. `ends[state]` is a shape or None. `made_of[state]` has for
-    each block the shape over the sums of the loop that it stands for. `fresh[state]` tells for each block
-    whether it was made in the latest step: of two others it is known that they do not stay side by side.
+    `branches[state]` has what can happen behind an item: tuples of the next state and its contents, which
+    are for each of its blocks the shape over the blocks of the state and the item. `choices[state]` tells
+    for each tag which branch it takes, `turns[state]` has the branches themselves tag by tag.
+    `ends[state]` is a shape or None. `made_of[state]` has for each block the shape over the sums of the
+    loop that it stands for. `fresh[state]` tells for each block whether it was made in the latest step: of
+    two others it is known that they do not stay side by side.
     """
 
-    def __init__(self, kind, states, turns, ends, made_of, fresh):
+    def __init__(self, kind, states, branches, choices, ends, made_of, fresh):
         self.under = kind
         self.states = states
-        self.turns = turns
+        self.branches = branches
+        self.choices = choices
+        self.turns = [[told[choice] for choice in row] for told, row in zip(branches, choices)]
         self.ends = ends
         self.made_of = made_of
         self.fresh = fresh
@@ -41,21 +45,23 @@ def _first_form(plan, kind):
     """The form in which each sum that can come into a result is a block."""
     states = sorted(plan.reached(), key=int)
     numbers = {state: at for at, state in enumerate(states)}
-    living = living_sums(plan)
-    sums = {state: [place for place in range(len(plan.sums)) if place in living[state]] for state in states}
+    sums = living_sums(plan)
     places = {state: {place: at for at, place in enumerate(sums[state])} for state in states}
-    turns = []
+    branches = []
+    choices = []
     ends = []
     for state in states:
-        row = []
-        for turn in plan.turns[state]:
+        known = {}
+        choices.append([known.setdefault(turn, len(known)) for turn in plan.shared_turns()[state]])
+        told = []
+        for turn in known:
             codes = {place: code for place, code in turn.changes}
             moved = [codes.get(place, (place,)) for place in sums[turn.goal]]
-            row.append((numbers[turn.goal], tuple([_numbered(kind, code, places[state]) for code in moved])))
-        turns.append(row)
+            told.append((numbers[turn.goal], tuple([_numbered(kind, code, places[state]) for code in moved])))
+        branches.append(told)
         ends.append(_numbered(kind, plan.ends[state], places[state]))
     parts = [[(place,) for place in sums[state]] for state in states]
-    return Form(kind, states, turns, ends, parts, [[True] * len(blocks) for blocks in parts])
+    return Form(kind, states, branches, choices, ends, parts, [[True] * len(blocks) for blocks in parts])
 
 
 def _numbered(kind, code, places):
@@ -75,13 +81,13 @@ class Watch:
 
     def __init__(self, form):
         self.form = form
-        self.homes = [[_homes(contents) for _, contents in row] for row in form.turns]
+        self.homes = [[_homes(contents) for _, contents in told] for told in form.branches]
         self.torn = {}
         self.origins = {}
 
     def pairs(self):
         """The tuples of a state and of two of its blocks that always end up side by side, in that order."""
-        keys = [key for state in range(len(self.form.turns)) for key in self._candidates(state)]
+        keys = [key for state in range(len(self.form.branches)) for key in self._candidates(state)]
         asked = {key: True for key in keys}
         for key in keys:
             needed = self._needed(key)
@@ -113,7 +119,7 @@ class Watch:
             if one not in end or two not in end or not are_side_by_side(self.form.under, end, one, two):
                 return None
         found = []
-        for homes, (goal, contents) in zip(self.homes[state], self.form.turns[state]):
+        for homes, (goal, contents) in zip(self.homes[state], self.form.branches[state]):
             left = homes.get(one)
             right = homes.get(two)
             if left is None or right is None:
@@ -159,7 +165,7 @@ def _chains(kind, size, follows):
 
 def _followers(form):
     """For each state a dict that tells for a block which one always stands behind it."""
-    found = [{} for _ in form.turns]
+    found = [{} for _ in form.branches]
     for state, one, two in Watch(form).pairs():
         # Of a class of blocks each one stands beside each other one: then the next one counts.
         if form.under != "bags" or one < two and one not in found[state]:
@@ -190,28 +196,35 @@ def _joined(form, groups):
     """The form in which the blocks of each group are one block."""
     kind = form.under
     numbers = [{block: at for at, group in enumerate(told) for block in group} for told in groups]
-    turns = []
+    branches = []
     ends = []
-    for state, row in enumerate(form.turns):
+    for state, row in enumerate(form.branches):
         told = []
         for goal, contents in row:
             wholes = [put_together(kind, [contents[block] for block in group]) for group in groups[goal]]
             told.append((goal, tuple([_regrouped(kind, shape, numbers[state]) for shape in wholes])))
-        turns.append(told)
+        branches.append(told)
         end = form.ends[state]
         ends.append(None if end is None else _regrouped(kind, end, numbers[state]))
     parts = [
         [put_together(kind, [form.made_of[state][block] for block in group]) for group in told]
         for state, told in enumerate(groups)
     ]
-    return Form(kind, form.states, turns, ends, parts, [[len(group) > 1 for group in told] for told in groups])
+    fresh = [[len(group) > 1 for group in told] for told in groups]
+    return Form(kind, form.states, branches, form.choices, ends, parts, fresh)
 
 
-def form_of(plan, kind):
-    """The form of the plan of a single loop with as few blocks as can be."""
+def _least_form(plan, kind):
     form = _first_form(plan, kind)
     while True:
         follows = _followers(form)
         if not any([len(told) > 0 for told in follows]):
             return form
         form = _joined(form, [_chains(kind, form.many_blocks(state), told) for state, told in enumerate(follows)])
+
+
+def form_of(plan, kind):
+    """The form of the plan of a single loop with as few blocks as can be."""
+    if kind not in plan.forms:
+        plan.forms[kind] = _least_form(plan, kind)
+    return plan.forms[kind]

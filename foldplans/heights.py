@@ -59,7 +59,7 @@ def _gauge_up_to(most):
     """The gauge that tells heights up to this one; greater ones count as this one."""
     values = list(range(most + 1))
     rows = [[_put_together(a, b) if a < most and b < most else most for b in values] for a in values]
-    return Gauge(rows, [0], [[0]], [""] * (most + 1))
+    return Gauge(rows, 1, [[(0, 0)]], [""] * (most + 1))
 
 
 def high_rows(loop, h):

@@ -12,6 +12,12 @@ def plainest_kind(kind, are_single):
     return _SAME.get(kind, kind) if are_single else kind
 
 
+def needed_parts(kind, are_single):
+    """The parts of a kind whose gauges are to be asked, for two loops that are both single, or not."""
+    # Single loops agree under both parts of middles, or under none of them.
+    return ("heads",) if are_single and kind == "middles" else parts_of(kind)
+
+
 def kinds_for(are_single):
     """The kinds that are looked at for two loops that are both single, or not."""
     return [kind for kind in all_kinds() if are_single or kind not in ("trees", "pairs")]

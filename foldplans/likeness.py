@@ -38,11 +38,15 @@ def likeness(one, two, first):
         if not _ends_alike(one, two, triple):
             return None
         state, other, names = triple
-        for left, right in zip(one.turns[state], two.turns[other]):
-            matched = _matched(one.under, left[1], right[1], names)
+        # Of tags with the same two branches one is enough.
+        pairs = {pair: True for pair in zip(one.choices[state], two.choices[other])}
+        for choice, likewise in pairs:
+            goal, contents = one.branches[state][choice]
+            aim, others = two.branches[other][likewise]
+            matched = _matched(one.under, contents, others, names)
             if matched is None:
                 return None
-            behind = (left[0], right[0], matched)
+            behind = (goal, aim, matched)
             if behind not in found:
                 found[behind] = True
                 waiting.append(behind)

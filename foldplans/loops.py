@@ -7,7 +7,7 @@ from foldplans.reading import read_plan
 
 def _uses_items_twice(plan):
     """Whether an `on` line that some list reaches has x twice."""
-    return any([turn.is_double for state in plan.reached() for turn in plan.turns[state]])
+    return any([turn.work.is_double for state in plan.reached() for turn in plan.turns[state]])
 
 
 class Loop:
@@ -49,10 +49,14 @@ class Loop:
 
     def run(self, items, operation):
         """The result of the run for a list of tuples (tag, value), or None if there is none."""
+        numbers = self.plan.tag_numbers
+        turns = self.plan.turns
         state = 0
         held = self.plan.nothing_held()
         for index, (tag, value) in enumerate(list(items)):
-            turn = self.turn(state, tag, index)
+            if tag not in numbers:
+                raise BadTag(index)
+            turn = turns[state][numbers[tag]]
             held = turn.held_behind(held, value, operation)
             state = turn.goal
         return self.plan.outcome(state, held, operation)

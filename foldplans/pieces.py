@@ -81,7 +81,7 @@ class Summary:
         state, held = self._effects[0]
         values = [[part[0] for part in parts if isinstance(part, tuple)] for parts in held]
         return worked_out(
-            self._loop.plan.ends[state], [told[0] if told else None for told in values], None, self._operation
+            self._loop.plan.ends[state], [told[0] if told else None for told in values], self._operation
         )
 
     def most(self):

@@ -1,7 +1,7 @@
 """What a loop does, told by numbers: its tags, sums and states are numbered in their order."""
 
 from foldplans.bits import members_of, set_of
-from foldplans.codes import worked_out
+from foldplans.codes import letters_in, sums_in, worked_out
 
 
 class Work:
@@ -10,7 +10,8 @@ class Work:
     An assignment is a tuple of a sum and a code, or None for the word `none`. `used` has the sums on the
     right sides, `needed` is the set of these; `pluses` counts their +, and `is_double` tells whether the
     item is there twice. `emptied` and `filled` are the sets of the sums that hold nothing, or something,
-    behind the line, whatever they held before.
+    behind the line, whatever they held before. What is asked for only of some loops is found out when it
+    is, and kept.
     """
 
     def __init__(self, changes, needed, pluses, is_double):
@@ -22,6 +23,22 @@ class Work:
         self.filled = set_of([place for place, code in changes if code is not None])
         gone = set_of([place for place, code in changes if code is None])
         self.emptied = (gone | needed) & ~self.filled
+        self.spelled = None
+        self._sources = None
+
+    def spell(self):
+        """Finds out `spelled`: a tuple of the assignments and of the same without any +.
+
+        In both an empty code stands for the word `none`.
+        """
+        written = [(place, () if code is None else code) for place, code in self.changes]
+        self.spelled = (written, [(place, letters_in(code)) for place, code in written])
+
+    def sources(self):
+        """For each assignment the set of its sum and the set of those that come into it."""
+        if self._sources is None:
+            self._sources = [(1 << place, set_of(sums_in(code))) for place, code in self.changes]
+        return self._sources
 
 
 class Turn:
@@ -32,24 +49,24 @@ class Turn:
         self.work = work
         self.changes = work.changes
         self.used = work.used
-        self.pluses = work.pluses
-        self.is_double = work.is_double
 
     def held_behind(self, held, item, operation):
         """What the sums hold behind an item, a new list. None stands for an empty sum."""
-        values = [worked_out(code, held, item, operation) for _, code in self.changes]
-        after = list(held)
+        slots = [*held, item]
+        values = [worked_out(code, slots, operation) for _, code in self.changes]
+        slots.pop()
         for place in self.used:
-            after[place] = None
+            slots[place] = None
         for (place, _), value in zip(self.changes, values):
-            after[place] = value
-        return after
+            slots[place] = value
+        return slots
 
 
 class Plan:
     """A loop by numbers. The start has the number 0.
 
-    `turns[state][tag]` is a Turn, `ends[state]` the code of the `end` line, or None for no result.
+    `turns[state][tag]` is a Turn, `ends[state]` the code of the `end` line, or None for no result. A plan
+    never changes, but `living`, `jobs` and `forms` keep what has been found out of it.
     """
 
     def __init__(self, tags, sums, states, turns, ends):
@@ -59,6 +76,10 @@ class Plan:
         self.turns = turns
         self.ends = ends
         self.tag_numbers = {tag: at for at, tag in enumerate(tags)}
+        self.living = None
+        self.jobs = {}
+        self.forms = {}
+        self._shared = None
 
     def nothing_held(self):
         """What the sums hold at the beginning."""
@@ -66,12 +87,21 @@ class Plan:
 
     def outcome(self, state, held, operation):
         """The result of a run that ends in this state."""
-        return worked_out(self.ends[state], held, None, operation)
+        return worked_out(self.ends[state], held, operation)
 
     def limited_to(self, tags):
         """The plan for the lists in which only the tags with these numbers occur."""
         turns = tuple([tuple([row[tag] for tag in tags]) for row in self.turns])
         return Plan(tuple([self.tags[tag] for tag in tags]), self.sums, self.states, turns, self.ends)
+
+    def shared_turns(self):
+        """The turns; if several lines do the same, the first of them stands for all."""
+        if self._shared is None:
+            firsts = {}
+            self._shared = [
+                [firsts.setdefault((turn.goal, turn.work), turn) for turn in row] for row in self.turns
+            ]
+        return self._shared
 
     def reached(self):
         """The numbers of the states that some list reaches."""

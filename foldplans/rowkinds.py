@@ -1,25 +1,46 @@
 """The least kinds of two loops row by row."""
 
 from foldplans.checks import check_tags
+from foldplans.codes import letters_in
 from foldplans.duels import parting_rows_of
+from foldplans.errors import BadTag
 from foldplans.gauges import gauge_for
-from foldplans.leastkinds import kinds_for, least_by_parts, least_of, parts_for, plainest_kind
+from foldplans.leastkinds import least_by_parts, parts_for, plainest_kind
 from foldplans.machines import Machine
+from foldplans.remains import least_of_unlike
 from foldplans.rowsets import RowSet
-from foldplans.trees import do_agree
+from foldplans.spelled import are_turned, spelled_result
+
+_NO_TAG = -1
+
+
+def _tag_numbers(loop, row):
+    """The numbers of the tags of a row."""
+    known = loop.plan.tag_numbers
+    found = [known.get(tag, _NO_TAG) for tag in row]
+    if _NO_TAG in found:
+        raise BadTag(found.index(_NO_TAG))
+    return found
 
 
 def kinds_at(p, q, row):
     """The least kinds of two loops at a row of tags."""
     check_tags(p, q)
-    one = p.tree(row)
-    two = q.tree(row)
-    kinds = kinds_for(p.is_single and q.is_single)
-    if one is None and two is None:
-        return least_of(kinds)
+    numbers = _tag_numbers(p, row)
+    are_single = p.is_single and q.is_single
+    one = spelled_result(p.plan, numbers, not are_single)
+    two = spelled_result(q.plan, numbers, not are_single)
+    if one == two:
+        return ["trees"] if are_single else ["words"]
     if one is None or two is None:
         return []
-    return least_of([kind for kind in kinds if do_agree(one, two, kind)])
+    if not are_single:
+        return least_of_unlike(one, two, False)
+    # The letters differ from one another. So trees with the same row of letters that are not equal do
+    # not agree under pairs either.
+    left = letters_in(one)
+    right = letters_in(two)
+    return ["words"] if left == right else least_of_unlike(left, right, are_turned(one, two))
 
 
 def _machines_for(p, q, parts, are_single):

@@ -18,10 +18,10 @@ def _check_values(values, size):
             raise BadValue(value)
 
 
-def _with_rows(rows):
-    """The table with these rows, which nobody else keeps."""
+def table_of_rows(rows):
+    """The table with these rows."""
     table = Table(len(rows))
-    table._rows = rows
+    table._rows = [list(row) for row in rows]
     return table
 
 
@@ -54,7 +54,7 @@ class Table:
             fits = len(words) == len(lines) and all([word in numbers for word in words])
             if at >= _GREATEST_SIZE or not fits:
                 raise BadTable(at + 1)
-        return _with_rows([[numbers[word] for word in words] for words in lines])
+        return table_of_rows([[numbers[word] for word in words] for words in lines])
 
     def __getitem__(self, at):
         a, b = at
@@ -135,7 +135,7 @@ class Table:
             for right in chosen:
                 if self._rows[left][right] not in chosen:
                     raise NotClosed(left, right)
-        return _with_rows([[chosen.index(self._rows[a][b]) for b in chosen] for a in chosen])
+        return table_of_rows([[chosen.index(self._rows[a][b]) for b in chosen] for a in chosen])
 
     def __mul__(self, other):
         many = other.size
@@ -143,13 +143,13 @@ class Table:
         if size > _GREATEST_SIZE:
             raise BadSize(size)
         pairs = [(i, j) for i in range(self.size) for j in range(many)]
-        return _with_rows(
+        return table_of_rows(
             [[self._rows[a][i] * many + other._rows[b][j] for i, j in pairs] for a, b in pairs]
         )
 
     def __invert__(self):
-        return _with_rows([list(column) for column in zip(*self._rows)])
+        return table_of_rows([list(column) for column in zip(*self._rows)])
 
     def copied(self):
         """An equal new table."""
-        return _with_rows([list(row) for row in self._rows])
+        return table_of_rows([list(row) for row in self._rows])

@@ -1,6 +1,7 @@
 """Trees: values put together, and when two of them agree under a kind."""
 
 from foldplans.errors import NoKind
+from foldplans.remains import what_remains
 from foldplans.rules import all_kinds
 
 
@@ -54,77 +55,6 @@ def _pairs_number(tree, numbers):
     return held[0]
 
 
-def _row(row):
-    return row
-
-
-def _counts(row):
-    counts = {}
-    for letter in row:
-        counts[letter] = counts.get(letter, 0) + 1
-    return counts
-
-
-def _odd_ones(row):
-    odd = {}
-    for letter in row:
-        if letter in odd:
-            del odd[letter]
-        else:
-            odd[letter] = True
-    return odd
-
-
-def _members(row):
-    return {letter: True for letter in row}
-
-
-def _first_places(row):
-    """Each letter where it occurs first."""
-    return list(_members(row))
-
-
-def _last_places(row):
-    """Each letter where it occurs last, from right to left."""
-    return list(_members(row[::-1]))
-
-
-def _both_places(row):
-    return [_first_places(row), _last_places(row)]
-
-
-def _left_end(row):
-    return row[0]
-
-
-def _right_end(row):
-    return row[-1]
-
-
-def _both_ends(row):
-    return [row[0], row[-1]]
-
-
-def _nothing(row):
-    return 0
-
-
-# What remains of the letters of a tree: two trees agree under the kind if it is equal for both.
-_REMAINS = {
-    "words": _row,
-    "bags": _counts,
-    "parity": _odd_ones,
-    "middles": _both_places,
-    "heads": _first_places,
-    "tails": _last_places,
-    "sets": _members,
-    "outer": _both_ends,
-    "lefts": _left_end,
-    "rights": _right_end,
-    "one": _nothing,
-}
-
-
 def do_agree(one, two, kind):
     """Whether two trees have the same value for each operation of the kind."""
     if kind not in all_kinds():
@@ -134,5 +64,4 @@ def do_agree(one, two, kind):
     if kind == "pairs":
         numbers = {}
         return _pairs_number(one, numbers) == _pairs_number(two, numbers)
-    remains = _REMAINS[kind]
-    return remains(letters(one)) == remains(letters(two))
+    return what_remains(letters(one), kind) == what_remains(letters(two), kind)

@@ -87,3 +87,19 @@ def counted(last, change):
 def name_of(number):
     """A name for a state."""
     return "st" + "abcdefghijklmnopqrstuvwxyz"[number]
+
+
+def stepping(many, ends=None, tags="mnrs"):
+    """The text of a loop with so many states in a row; each of them does the same under every tag.
+
+    The dict tells which `end` lines are different.
+    """
+    lines = ["tags " + " ".join(tags), "sums a b"]
+    for at in range(many):
+        work = ["b = x"] if at == 0 else ["a = b", "b = x"] if at == 1 else ["a = a + b", "b = x"]
+        lines.append("state " + name_of(at))
+        for tag in tags:
+            lines += [f"on {tag} go {name_of(min(at + 1, many - 1))}", *work]
+        end = "none" if at == 0 else "b" if at == 1 else "a + b"
+        lines.append("end " + (ends or {}).get(at, end))
+    return "\n".join(lines)
