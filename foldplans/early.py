@@ -2,7 +2,7 @@
 
 from foldplans.following import Follower
 
-# How many steps are looked at, about.
+# How many items are looked at, about.
 _GREATEST_EFFORT = 3000
 
 
@@ -36,13 +36,13 @@ class Look:
         return self.known[key]
 
     def _go_on(self, at):
-        """Meets the nodes that follow a node; how many steps lead there."""
+        """Meets the nodes that follow a node; how many items lead there."""
         used, state, held, other, likewise = self.nodes[at]
-        steps = 0
+        many = 0
         for tag, left, right in self._turns(state, other):
             lefts = self.one.held_behind(left, used, held)
             rights = self.two.held_behind(right, used, likewise)
-            steps += len(lefts)
+            many += len(lefts)
             for choice, (later, after) in enumerate(lefts):
                 node = (later, left.goal, after, right.goal, rights[choice][1])
                 if node not in self.numbers:
@@ -50,7 +50,7 @@ class Look:
                     self.nodes.append(node)
                     self.lengths.append(self.lengths[at] + 1)
                     self.origins.append((at, tag, choice))
-        return steps
+        return many
 
     def _items_to(self, at):
         """The items that lead to a node, tuples of the number of a tag and a value."""
